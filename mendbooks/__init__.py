@@ -1,0 +1,1 @@
+"""Mendbooks: schemes of search trees, each decided for all trees."""

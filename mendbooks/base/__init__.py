@@ -1,0 +1,1 @@
+"""What all other modules rest on: words, forms, schemes and pictures."""

@@ -1,0 +1,1 @@
+"""The tests of mendbooks; README.md tells how to run them."""
