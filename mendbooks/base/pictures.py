@@ -13,7 +13,7 @@ class Picture:
 
     def __init__(self, text):
         # The depth is asked for first: it also bounds how deep the parts are made in each other.
-        if not isinstance(text, str) or _depth(text) > MAX_LEVELS:
+        if not isinstance(text, str) or depth_of(text) > MAX_LEVELS:
             raise InvalidPicture("no text of a picture")
         called, texts = _top_of(text)
         self._text = text
@@ -155,11 +155,11 @@ def split_text(text):
     called, _, rest = text.partition("(")
     if not rest.endswith(")"):
         return None
-    texts = _split_blanks(rest[:-1])
+    texts = split_blanks(rest[:-1])
     return None if texts is None else (called, texts)
 
 
-def _split_blanks(text):
+def split_blanks(text):
     """The list of the texts between the outer blanks; None if brackets do not pair."""
     texts = []
     depth = 0
@@ -178,7 +178,7 @@ def _split_blanks(text):
     return texts if depth == 0 else None
 
 
-def _depth(text):
+def depth_of(text):
     """The greatest number of brackets in each other."""
     depth = 0
     deepest = 0

@@ -39,3 +39,13 @@ def is_names(value):
 def words_of(value):
     """The words between the blanks of a line; no words for a value that is no string."""
     return tuple(value.split(" ")) if isinstance(value, str) else ()
+
+
+def is_flat(value):
+    """Whether the value is a tuple of strings and integers: only such a tuple is looked up."""
+    return isinstance(value, tuple) and all([isinstance(part, str) or is_integer(part) for part in value])
+
+
+def is_indices(value):
+    """Whether the value is a tuple of integers, as paths are."""
+    return isinstance(value, tuple) and all([is_integer(part) for part in value])

@@ -1,0 +1,1 @@
+"""Drawings, and books of them."""

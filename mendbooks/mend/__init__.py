@@ -1,0 +1,1 @@
+"""Deeds in single trees."""

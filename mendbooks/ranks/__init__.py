@@ -1,0 +1,1 @@
+"""What exists at the ranks of a scheme, and how many and how high its trees are."""

@@ -1,0 +1,1 @@
+"""Trees without keys."""
