@@ -3,6 +3,11 @@
 from mendbooks import errors
 from mendbooks.base.forms import Form, Scheme
 from mendbooks.base.pictures import Picture
+from mendbooks.books.books import Book
+from mendbooks.books.drawings import Drawing
+from mendbooks.decide.tables import Table
+from mendbooks.ranks.ranks import Ranks
+from mendbooks.trees.shapes import Shape
 
 LONGEST = 10 ** 60 - 1
 TOO_LONG = 10 ** 60
@@ -25,7 +30,8 @@ def odd_values():
     """Values of all kinds that point 0.4 names, made anew for each call."""
     return [
         *odd_numbers(), *odd_texts(), *odd_sequences(), *odd_objects(),
-        None, True, False, {}, {"t": "t"}, {1: 2}, {("t", 1): ["t"]}, {None: {}},
+        None, True, False, {}, {"t": "t"}, {1: 2}, {("t", 1): ["t"]}, {None: {}}, {(1,): "two"}, {(0,): None},
+        {(True,): "two"}, {(1,): ""}, {(1,): True}, {((1,),): "two"}, {(10 ** 60,): None},
         nested(8, "t", lambda value: {"t": value}),
     ]
 
@@ -37,7 +43,7 @@ def odd_numbers():
 def odd_texts():
     return ["", " ", ".", "..", "(", ")", "()", "t", "T", "b1", "two", "a b", "t\n", "\n", "x", "^two(. .)",
             "two(. .)", "two(x .)", "two(!+1:t .)", "abcdefgh", "abcdefghi", "0", "1", "bare t", "tops t",
-            "form even t t1 t1", "put ^two", "even", "left", "z" * 4000, "(" * 4000, ")" * 4000, "a(. " * 1000,
+            "form even t t1 t1", "put ^two", "put two", "put", "cut", "left", "put ", "mend ", "even", "left", "z" * 4000, "(" * 4000, ")" * 4000, "a(. " * 1000,
             "a(" * 2000, "a" + "(" * 1999 + ")" * 2000, " " * 4000, "{}", "%s"]
 
 
@@ -46,13 +52,22 @@ def odd_sequences():
         (), ("t",), ("t", 1), ("t", True), ("a", "b"), ("b", "a"), ("a", "a"), (0,), (True,), (False,), (0, 0),
         (("t", 1), ("t", 1)), (("t", 1), ("t", True)), (("t", -1), ("t", -1)), [("t", 1), ("t", 1)], (None,),
         [], ["t"], ["a", "b"], [0], [[]], ([],), ({},), (("t", []),), (["t", 1], ["t", 1]), ("t", ["t"]),
+        ("put",), ("put", 0), ("cut", 0), ("put", True), ("put", -1), ("cut", "two", 0), ("cut", "two", 0, 1),
+        ("mend", "two", 0, -1, "t"), ("two", 0, -1, "t", 2), ("two", False, -1, "t", 2), ("", 0, 0, "t", 0),
+        ("join", "t", "t", 0, 0), ("top", "t"), (("two", (None, None)),), (("two", [None, None]),),
+        (["two", (None, None)],), (("two", (None, 0)),), (("three", (None, None, None)),), (("two", (None, None), 0),),
         nested(8, "t", lambda value: (value,)), nested(8, 0, lambda value: [value]),
         nested(8, (), lambda value: (value, value)),
     ]
 
 
 def odd_objects():
+    drawing = Drawing(TWOTHREE, "put ^two")
+    book = Book(TWOTHREE, (drawing,))
+    shape = Shape(TWOTHREE, (("two", (None, None)),))
     return [
+        drawing, (drawing,), [drawing], book, (book,), shape, (shape,), [shape, shape], Ranks(TWOTHREE),
+        Table(book, "put"),
         Form("two", "t", (("t", 1), ("t", 1))), (Form("even", "t", (("t", 1), ("t", 1))),), HEIGHTS, (HEIGHTS,),
         Picture("."), Picture("two(. .)"), (Picture("."),), (Picture("."), Picture(".")), [Picture("."), Picture(".")],
         errors.ParseError(3), errors.UnknownName("t"), errors.InvalidName("t"),

@@ -5,8 +5,27 @@ import unittest
 from mendbooks.base.forms import Form, Scheme, mirrored_scheme
 from mendbooks.base.pictures import Picture, are_apart, spot_over, spots_of
 from mendbooks.base.words import is_count, is_integer, is_name, is_names
+from mendbooks.books.books import Book, choice, mirrored_book
+from mendbooks.books.drawings import Drawing, clash
+from mendbooks.decide.tables import Table, beside, is_beside
+from mendbooks.mend.deeds import cut, failing_place, fresh_nodes, put, steps
+from mendbooks.ranks.counts import count_right, count_sound, each_right, number_of, right_at
+from mendbooks.ranks.heights import greatest_height, least_height, least_keys, most_keys, tall_tree
+from mendbooks.ranks.ranks import Ranks
+from mendbooks.trees.shapes import Shape
 
 HEIGHTS = Scheme.from_lines("bare t", "tops t", "form even t t1 t1", "form left t t1 t2", "form right t t2 t1")
+TWOTHREE = Book.from_lines("bare t", "tops t", "form two t t1 t1", "form three t t1 t1 t1", "put ^two",
+    "mend two(!+1:two(. .) .) to three(. . .)", "mend two(. !+1:two(. .)) to three(. . .)",
+    "mend three(!+1:two(. .) . .) to ^two(two(. .) two(. .))", "mend three(. !+1:two(. .) .) to ^two(two(. .) two(. .))",
+    "mend three(. . !+1:two(. .)) to ^two(two(. .) two(. .))",
+    "cut two(x .) to .", "cut two(. x) to .", "cut three(x . .) to two(. .)", "cut three(. x .) to two(. .)",
+    "cut three(. . x) to two(. .)", "mend two(!-1:t two(. .)) to three(. . .)",
+    "mend two(!-1:t three(. . .)) to two(two(. .) two(. .))", "mend two(two(. .) !-1:t) to three(. . .)",
+    "mend two(three(. . .) !-1:t) to two(two(. .) two(. .))", "mend three(!-1:t two(. .) .) to two(three(. . .) .)",
+    "mend three(!-1:t three(. . .) .) to three(two(. .) two(. .) .)", "mend three(two(. .) !-1:t .) to two(three(. . .) .)",
+    "mend three(three(. . .) !-1:t .) to three(two(. .) two(. .) .)", "mend three(. two(. .) !-1:t) to two(. three(. . .))",
+    "mend three(. three(. . .) !-1:t) to three(. two(. .) two(. .))")
 
 
 class Examples(unittest.TestCase):
@@ -34,3 +53,88 @@ class Examples(unittest.TestCase):
             [spot_over(HEIGHTS, Picture("even(. even(. .))"), (("t", -1), ("t", -2), ("t", -2))),
              are_apart(picture, Picture("left(even(. .) .)"))],
             [("t", 0), True])
+
+    def test_drawings(self):
+        scheme = TWOTHREE.scheme
+        mend = Drawing(scheme, "mend two(!-1:t three(. . .)) to two(two(. .) two(. .))")
+        self.assertEqual([mend.place, mend.result, mend.is_odd, mend.hand, mend.opened],
+                         [("mend", "two", 0, -1, "t"), ("t", 0), False, "t", {(1,): "three"}])
+        part = Drawing(scheme, "mend three(!+1:two(. .) . .) to ^two(two(. .) two(. .))")
+        self.assertEqual([part.place, part.result, part.hand, len(part), part.mirrored(scheme).line],
+                         [("mend", "three", 0, 1, "two(. .)"), ("t", 1), "two(. .)", 3,
+                          "mend three(. . !+1:two(. .)) to ^two(two(. .) two(. .))"])
+        self.assertEqual([clash(mend, Drawing(scheme, "mend two(!-1:t two(. .)) to three(. . .)")), clash(mend, mend)],
+                         [False, True])
+
+    def test_books(self):
+        place = ("mend", "two", 0, -1, "t")
+        self.assertEqual(
+            [str(TWOTHREE), TWOTHREE.put_drawing.line, len(TWOTHREE.at(place)), "put ^two" in TWOTHREE, TWOTHREE.places[0]],
+            ["book of 2 forms, 21 drawings", "put ^two", 2, True, ("cut", "three", 0)])
+        self.assertEqual([choice(TWOTHREE, place, {(1,): "two"}).result, choice(TWOTHREE, place, {}),
+                          mirrored_book(TWOTHREE) == TWOTHREE], [("t", -1), None, False])
+
+    def test_shapes(self):
+        leaf, scheme = Shape(HEIGHTS, (("even", (None, None)),)), HEIGHTS
+        lean = Shape.node(scheme, "left", (leaf, Shape(scheme, ())))
+        both = Shape.node(scheme, "even", (lean, lean))
+        self.assertEqual([both.rows, str(both), both.spot, both.is_right, both.path_to(4)],
+                         [(("even", (None, None)), ("left", (0, None)), ("even", (1, 1))), "shape with 5 keys, height 3",
+                          ("t", 3), True, (1, 0, 1)])
+        self.assertEqual([both.name_at((1, 0)), Shape.node(scheme, "even", (lean, leaf)).fault,
+                          both.replaced((0,), leaf).spot], ["even", 2, None])
+
+    def test_ranks(self):
+        ranks = Ranks(HEIGHTS)
+        self.assertEqual(
+            [str(ranks), ranks.base_of(100), ranks.forms_at(1), ranks.forms_at(2),
+             [ranks.least("t", rank) for rank in range(6)], ranks.useful_at(7)],
+            ["ranks from 0 on by 1", 12, ("even",), ("even", "left", "right"), [0, 1, 2, 4, 7, 12], ("t",)])
+        thirds = Ranks(Scheme.from_lines("bare a", "tops a", "form x b a3 a3", "form y a b3 b3"))
+        self.assertEqual(
+            [thirds.turn, thirds.period, thirds.sorts_at(3), thirds.sorts_at(4), thirds.sorts_at(6), thirds.around("b", 3),
+             thirds.least("b", 9), thirds.choices_at("a", 0)], [0, 6, ("b",), (), ("a",), 2, 7, ("",)])
+
+    def test_counts(self):
+        self.assertEqual([[count_right(HEIGHTS, keys) for keys in range(8)],
+                          [count_right(TWOTHREE.scheme, keys) for keys in range(8)], count_sound(HEIGHTS, "t", 3, 4)],
+                         [[1, 1, 2, 1, 4, 6, 4, 17], [1, 1, 1, 1, 2, 2, 3, 4], 4])
+        self.assertEqual([shape.rows for shape in each_right(HEIGHTS, 2)],
+                         [(("even", (None, None)), ("left", (0, None))), (("even", (None, None)), ("right", (None, 0)))])
+        self.assertEqual(number_of(right_at(HEIGHTS, 7, 11)), 11)
+
+    def test_heights(self):
+        self.assertEqual([[least_keys(HEIGHTS, height) for height in range(6)],
+                          [most_keys(HEIGHTS, height) for height in range(4)], greatest_height(HEIGHTS, 10 ** 12)],
+                         [[0, 1, 2, 4, 7, 12], [0, 1, 3, 7], 57])
+        self.assertEqual([least_height(TWOTHREE.scheme, 10 ** 6), tall_tree(HEIGHTS, 5).height], [13, 3])
+
+    def test_deeds(self):
+        scheme = TWOTHREE.scheme
+        three = Shape(scheme, (("three", (None, None, None)),))
+        self.assertEqual(
+            [put(TWOTHREE, three, 1).rows, steps(TWOTHREE, three, ("put", 1)), cut(TWOTHREE, three, 2).rows],
+            [(("two", (None, None)), ("two", (0, 0))),
+             (((1,), "put ^two"), ((), "mend three(. !+1:two(. .) .) to ^two(two(. .) two(. .))")),
+             (("two", (None, None)),)])
+        full = Shape(scheme, (("two", (None, None)), ("two", (0, 0))))
+        self.assertEqual(
+            [cut(TWOTHREE, full, 0).rows, failing_place(TWOTHREE.without("cut two(x .) to ."), full, ("cut", 2)),
+             fresh_nodes(TWOTHREE, full, ("cut", 3))],
+            [(("three", (None, None, None)),), ("cut", "two", 0), 1])
+
+    def test_tables(self):
+        table = Table(TWOTHREE, "put")
+        less = TWOTHREE.without("mend three(. . !+1:two(. .)) to ^two(two(. .) two(. .))")
+        self.assertEqual([str(table), table.is_good, table.starts, len(Table(TWOTHREE, "cut")),
+                          len(Table(less, "put").open_rows)], ["table of 61 rows, 0 open", True, (("put",),), 56, 12])
+        self.assertEqual([table.rows[0], len(table.way(("two", 0, 1, "two(. .)", 2))),
+                          table.leads(("two", 1, 1, "two(. .)", 7))],
+                         [("", 0, 0, "two(. .)", 0), 3, {"mend two(. !+1:two(. .)) to three(. . .)": ()}])
+        self.assertEqual([is_beside(less, ("three", 2, 1, "two(. .)", 4), {(0,): "two"}),
+                          beside(less, ("three", 0, 1, "two(. .)", 4))], [True, None])
+
+    def test_tables_of_joins(self):
+        glue = TWOTHREE.with_drawing("join t t +0 to ^two(. .)")
+        self.assertEqual([Table(glue, "left").starts[0], len(Table(glue, "left")), Table(glue, "right").is_good],
+                         [("join", "t", "t", 0, 0), 25, True])

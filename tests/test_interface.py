@@ -16,6 +16,36 @@ FUNCTIONS = {
         "are_apart": ["one", "other"], "is_sound_picture": ["scheme", "value"], "spots_of": ["scheme", "picture"],
         "spot_over": ["scheme", "picture", "spots"],
     },
+    "books.drawings": {"clash": ["one", "other"]},
+    "books.books": {
+        "mirrored_book": ["book"], "renamed_book": ["book", "sorts", "forms"], "choice": ["book", "place", "opened"],
+    },
+    "ranks.counts": {
+        "count_sound": ["scheme", "sort", "rank", "keys"], "count_right": ["scheme", "keys"],
+        "each_right": ["scheme", "keys"], "right_at": ["scheme", "keys", "number"], "number_of": ["shape"],
+    },
+    "ranks.heights": {
+        "least_keys": ["scheme", "height"], "most_keys": ["scheme", "height"], "greatest_height": ["scheme", "keys"],
+        "least_height": ["scheme", "keys"], "tall_tree": ["scheme", "keys"],
+    },
+    "mend.deeds": {
+        "is_deed": ["shape", "value"], "put": ["book", "shape", "gap"], "cut": ["book", "shape", "gap"],
+        "steps": ["book", "shape", "deed"], "failing_place": ["book", "shape", "deed"],
+        "fresh_nodes": ["book", "shape", "deed"],
+    },
+    "decide.tables": {"beside": ["book", "row"], "is_beside": ["book", "row", "value"]},
+}
+CONSTANTS = {
+    "base.words": {"MAX_LETTERS": 8, "MAX_DIGITS": 60},
+    "base.forms": {"MAX_CHILDREN": 4, "MAX_STEP": 3, "MAX_SORTS": 8, "MAX_FORMS": 24},
+    "base.pictures": {"MAX_LEVELS": 4, "HOLE": "."},
+    "books.drawings": {"MAX_DIFFERENCE": 12, "KINDS": ("put", "cut", "mend", "top", "join")},
+    "books.books": {"MAX_DRAWINGS": 150},
+    "trees.shapes": {"MAX_ROWS": 4000},
+    "ranks.ranks": {"MAX_TURN": 100, "MAX_RANK": 400},
+    "ranks.counts": {"MAX_COUNTED": 40},
+    "ranks.heights": {"MAX_HEIGHT": 100},
+    "decide.tables": {"DEEDS": ("put", "cut", "left", "right"), "MAX_TABLE": 20000},
 }
 CLASSES = {
     "base.forms": {
@@ -36,6 +66,44 @@ CLASSES = {
             "__init__": ["text"], "of": classmethod, "text": property, "called": property, "parts": property,
             "holes": property, "levels": property, "names": property, "paths": [], "__getitem__": ["path"],
             "mirrored": [], "__len__": [], "__bool__": [], "__eq__": ["value"], "__str__": [],
+        },
+    },
+    "books.drawings": {
+        "Drawing": {
+            "__init__": ["scheme", "line"], "scheme": property, "line": property, "kind": property, "place": property,
+            "first": property, "second": property, "result": property, "hand": property, "is_odd": property,
+            "opened": property, "mirrored": ["scheme"], "__eq__": ["value"], "__str__": [], "__len__": [],
+        },
+    },
+    "books.books": {
+        "Book": {
+            "__init__": ["scheme", "drawings"], "from_lines": classmethod, "scheme": property, "drawings": property,
+            "put_drawing": property, "lines": property, "places": property, "at": ["place"], "__getitem__": ["line"],
+            "__contains__": ["value"], "with_drawing": ["line"], "without": ["line"], "__len__": [], "__iter__": [],
+            "__eq__": ["value"], "__str__": [],
+        },
+    },
+    "trees.shapes": {
+        "Shape": {
+            "__init__": ["scheme", "rows"], "node": classmethod, "scheme": property, "rows": property, "size": property,
+            "height": property, "spot": property, "is_right": property, "fault": property, "path_to": ["gap"],
+            "below": ["path"], "name_at": ["path"], "replaced": ["path", "other"], "mirrored": [], "__len__": [],
+            "__bool__": [], "__eq__": ["value"], "__str__": [],
+        },
+    },
+    "ranks.ranks": {
+        "Ranks": {
+            "__init__": ["scheme"], "scheme": property, "turn": property, "period": property, "base_of": ["rank"],
+            "sorts_at": ["rank"], "forms_at": ["rank"], "useful_at": ["rank"], "choices_at": ["sort", "rank"],
+            "least": ["sort", "rank"], "least_shape": ["sort", "rank"], "around": ["sort", "rank"], "hung": ["shape"],
+            "__eq__": ["value"], "__str__": [],
+        },
+    },
+    "decide.tables": {
+        "Table": {
+            "__init__": ["book", "kind"], "book": property, "kind": property, "rows": property, "starts": property,
+            "open_rows": property, "open_starts": property, "is_good": property, "leads": ["row"], "way": ["row"],
+            "__contains__": ["value"], "__len__": [], "__iter__": [], "__eq__": ["value"], "__str__": [],
         },
     },
 }
@@ -62,6 +130,15 @@ class Interface(unittest.TestCase):
                 self.assertEqual(function.__module__, f"mendbooks.{place}", name)
                 self.assertEqual(parameters(function), told, name)
 
+    def test_constants(self):
+        for place, constants in CONSTANTS.items():
+            for name, value in constants.items():
+                self.assertEqual(getattr(module(place), name), value)
+                self.assertIs(type(getattr(module(place), name)), type(value))
+
+    def test_each_right_is_a_generator(self):
+        self.assertTrue(inspect.isgeneratorfunction(module("ranks.counts").each_right))
+
     def test_errors(self):
         for name in ERRORS:
             self.assertEqual(getattr(module("errors"), name).__module__, "mendbooks.errors")
@@ -86,6 +163,9 @@ class Interface(unittest.TestCase):
 
     def test_class_methods(self):
         forms, pictures = module("base.forms"), module("base.pictures")
+        self.assertEqual(parameters(module("trees.shapes").Shape.node), ["scheme", "name", "parts"])
+        kind = inspect.signature(module("books.books").Book.from_lines).parameters["lines"].kind
+        self.assertIs(kind, inspect.Parameter.VAR_POSITIONAL)
         self.assertEqual(parameters(forms.Form.from_line), ["line"])
         self.assertEqual(parameters(pictures.Picture.of), ["called", "parts"])
         kind = inspect.signature(forms.Scheme.from_lines).parameters["lines"].kind

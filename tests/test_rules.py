@@ -56,7 +56,7 @@ class Names(unittest.TestCase):
         for path, tree in trees():
             bound = {node.name for node in ast.walk(tree) if isinstance(node, (ast.FunctionDef, ast.ClassDef))}
             for node in ast.walk(tree):
-                if isinstance(node, ast.Name) and hasattr(builtins, node.id):
+                if isinstance(node, ast.Name) and node.id != "_" and hasattr(builtins, node.id):
                     self.assertIsInstance(node.ctx, ast.Load, (path, node.id, node.lineno))
                     self.assertIn(node.id, ALLOWED_BUILTINS | bound, (path, node.lineno))
                 if isinstance(node, ast.arg):

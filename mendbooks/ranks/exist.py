@@ -15,12 +15,7 @@ class Existence:
     """
 
     def __init__(self, scheme, most):
-        sorts = _sorts_by_rank(scheme, most + _WINDOW)
-        windows = [tuple(sorts[rank:rank + _WINDOW]) for rank in range(most + 1)]
-        end = _first_repeated(windows)
-        if end is None:
-            raise TooMany(most)
-        turn = windows.index(windows[end])
+        sorts, turn, end = _sorts_until_repeated(scheme, most)
         self._scheme = scheme
         self._turn = turn
         self._period = end - turn
@@ -98,19 +93,30 @@ def children_of(scheme, sort, index):
     return found
 
 
-def _sorts_by_rank(scheme, many):
-    """The ascending tuples of the sorts that exist at so many ranks."""
+def _sorts_until_repeated(scheme, most):
+    """The list of the sorts at the first ranks, the turn, and the first rank at which they repeat."""
     sorts = []
-    for rank in range(many):
-        sorts.append((scheme.bare,) if rank == 0 else ())
-        more = True
-        while more:
-            # A child with the step 0 has the rank of its parent, so a form can make others possible here.
-            names = _forms_of_rank(scheme, sorts, rank)
-            found = tuple(sorted(set([*sorts[rank], *[scheme[name].sort_name for name in names]])))
-            more = found != sorts[rank]
-            sorts[rank] = found
-    return sorts
+    windows = []
+    while not windows or windows[-1] not in windows[:-1]:
+        if len(windows) > most:
+            raise TooMany(most)
+        _add_rank(scheme, sorts)
+        if len(sorts) >= _WINDOW:
+            windows.append(tuple(sorts[-_WINDOW:]))
+    return sorts, windows.index(windows[-1]), len(windows) - 1
+
+
+def _add_rank(scheme, sorts):
+    """Adds the ascending tuple of the sorts that exist at the next rank."""
+    rank = len(sorts)
+    sorts.append((scheme.bare,) if rank == 0 else ())
+    more = True
+    while more:
+        # A child with the step 0 has the rank of its parent, so a form can make others possible here.
+        names = _forms_of_rank(scheme, sorts, rank)
+        found = tuple(sorted(set([*sorts[rank], *[scheme[name].sort_name for name in names]])))
+        more = found != sorts[rank]
+        sorts[rank] = found
 
 
 def _forms_of_rank(scheme, sorts, rank):
@@ -130,11 +136,3 @@ def _tops_of_rank(scheme, sorts, forms, rank):
     for name in forms[rank]:
         tops[scheme[name].sort_name].append(name)
     return {sort: tuple(tops[sort]) for sort in tops}
-
-
-def _first_repeated(values):
-    """The first index of a value that stands earlier, too; None if there is none."""
-    for index, value in enumerate(values):
-        if value in values[:index]:
-            return index
-    return None
