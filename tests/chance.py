@@ -2,7 +2,6 @@
 
 import itertools
 import random
-import re
 
 from mendbooks.base.forms import Form, Scheme
 from mendbooks.base.pictures import Picture, spots_of
@@ -153,7 +152,3 @@ def depth(text):
         return Picture(text).levels
     except InvalidPicture:
         return 0
-
-
-def names_in(text):
-    return re.findall("[a-z]+", text)

@@ -5,7 +5,7 @@ import unittest
 from mendbooks.base.forms import Form, Scheme, mirrored_scheme
 from mendbooks.base.pictures import Picture, are_apart, spot_over, spots_of
 from mendbooks.base.words import is_count, is_integer, is_name, is_names
-from mendbooks.books.books import Book, choice, mirrored_book
+from mendbooks.books.books import choice, mirrored_book
 from mendbooks.books.drawings import Drawing, clash
 from mendbooks.decide.tables import Table, beside, is_beside
 from mendbooks.mend.deeds import cut, failing_place, fresh_nodes, put, steps
@@ -13,19 +13,7 @@ from mendbooks.ranks.counts import count_right, count_sound, each_right, number_
 from mendbooks.ranks.heights import greatest_height, least_height, least_keys, most_keys, tall_tree
 from mendbooks.ranks.ranks import Ranks
 from mendbooks.trees.shapes import Shape
-
-HEIGHTS = Scheme.from_lines("bare t", "tops t", "form even t t1 t1", "form left t t1 t2", "form right t t2 t1")
-TWOTHREE = Book.from_lines("bare t", "tops t", "form two t t1 t1", "form three t t1 t1 t1", "put ^two",
-    "mend two(!+1:two(. .) .) to three(. . .)", "mend two(. !+1:two(. .)) to three(. . .)",
-    "mend three(!+1:two(. .) . .) to ^two(two(. .) two(. .))", "mend three(. !+1:two(. .) .) to ^two(two(. .) two(. .))",
-    "mend three(. . !+1:two(. .)) to ^two(two(. .) two(. .))",
-    "cut two(x .) to .", "cut two(. x) to .", "cut three(x . .) to two(. .)", "cut three(. x .) to two(. .)",
-    "cut three(. . x) to two(. .)", "mend two(!-1:t two(. .)) to three(. . .)",
-    "mend two(!-1:t three(. . .)) to two(two(. .) two(. .))", "mend two(two(. .) !-1:t) to three(. . .)",
-    "mend two(three(. . .) !-1:t) to two(two(. .) two(. .))", "mend three(!-1:t two(. .) .) to two(three(. . .) .)",
-    "mend three(!-1:t three(. . .) .) to three(two(. .) two(. .) .)", "mend three(two(. .) !-1:t .) to two(three(. . .) .)",
-    "mend three(three(. . .) !-1:t .) to three(two(. .) two(. .) .)", "mend three(. two(. .) !-1:t) to two(. three(. . .))",
-    "mend three(. three(. . .) !-1:t) to three(. two(. .) two(. .))")
+from tests.books import HEIGHTS, TWOTHREE
 
 
 class Examples(unittest.TestCase):
