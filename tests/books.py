@@ -6,14 +6,17 @@ from mendbooks.books.books import Book
 TWOTHREE = Book.from_lines(
     "bare t", "tops t", "form two t t1 t1", "form three t t1 t1 t1", "put ^two",
     "mend two(!+1:two(. .) .) to three(. . .)", "mend two(. !+1:two(. .)) to three(. . .)",
-    "mend three(!+1:two(. .) . .) to ^two(two(. .) two(. .))", "mend three(. !+1:two(. .) .) to ^two(two(. .) two(. .))",
+    "mend three(!+1:two(. .) . .) to ^two(two(. .) two(. .))",
+    "mend three(. !+1:two(. .) .) to ^two(two(. .) two(. .))",
     "mend three(. . !+1:two(. .)) to ^two(two(. .) two(. .))",
     "cut two(x .) to .", "cut two(. x) to .", "cut three(x . .) to two(. .)", "cut three(. x .) to two(. .)",
     "cut three(. . x) to two(. .)", "mend two(!-1:t two(. .)) to three(. . .)",
     "mend two(!-1:t three(. . .)) to two(two(. .) two(. .))", "mend two(two(. .) !-1:t) to three(. . .)",
     "mend two(three(. . .) !-1:t) to two(two(. .) two(. .))", "mend three(!-1:t two(. .) .) to two(three(. . .) .)",
-    "mend three(!-1:t three(. . .) .) to three(two(. .) two(. .) .)", "mend three(two(. .) !-1:t .) to two(three(. . .) .)",
-    "mend three(three(. . .) !-1:t .) to three(two(. .) two(. .) .)", "mend three(. two(. .) !-1:t) to two(. three(. . .))",
+    "mend three(!-1:t three(. . .) .) to three(two(. .) two(. .) .)",
+    "mend three(two(. .) !-1:t .) to two(three(. . .) .)",
+    "mend three(three(. . .) !-1:t .) to three(two(. .) two(. .) .)",
+    "mend three(. two(. .) !-1:t) to two(. three(. . .))",
     "mend three(. three(. . .) !-1:t) to three(. two(. .) two(. .))")
 GLUE = TWOTHREE.with_drawing("join t t +0 to ^two(. .)")
 
@@ -24,8 +27,10 @@ REDS_LINES = (
     "mend bb(!+0:red(. .) .) to rb(red(. .) .)", "mend bb(. !+0:red(. .)) to br(. red(. .))",
     "mend br(!+0:red(. .) .) to rr(red(. .) .)", "mend rb(. !+0:red(. .)) to rr(. red(. .))",
     "mend red(!+0:red(. .) .) to ^lred(^red(. .) .)", "mend red(. !+0:red(. .)) to ^rred(. ^red(. .))",
-    "mend rb(!+0:lred(red(. .) .) .) to rr(red(. .) red(. .))", "mend rb(!+0:rred(. red(. .)) .) to rr(red(. .) red(. .))",
-    "mend br(. !+0:lred(red(. .) .)) to rr(red(. .) red(. .))", "mend br(. !+0:rred(. red(. .))) to rr(red(. .) red(. .))",
+    "mend rb(!+0:lred(red(. .) .) .) to rr(red(. .) red(. .))",
+    "mend rb(!+0:rred(. red(. .)) .) to rr(red(. .) red(. .))",
+    "mend br(. !+0:lred(red(. .) .)) to rr(red(. .) red(. .))",
+    "mend br(. !+0:rred(. red(. .))) to rr(red(. .) red(. .))",
     "mend rr(!+0:lred(red(. .) .) red(. .)) to ^red(rb(red(. .) .) bb(. .))",
     "mend rr(!+0:rred(. red(. .)) red(. .)) to ^red(br(. red(. .)) bb(. .))",
     "mend rr(red(. .) !+0:lred(red(. .) .)) to ^red(bb(. .) rb(red(. .) .))",

@@ -43,7 +43,8 @@ def odd_numbers():
 def odd_texts():
     return ["", " ", ".", "..", "(", ")", "()", "t", "T", "b1", "two", "a b", "t\n", "\n", "x", "^two(. .)",
             "two(. .)", "two(x .)", "two(!+1:t .)", "abcdefgh", "abcdefghi", "0", "1", "bare t", "tops t",
-            "form even t t1 t1", "put ^two", "put two", "put", "cut", "left", "put ", "mend ", "even", "left", "z" * 4000, "(" * 4000, ")" * 4000, "a(. " * 1000,
+            "form even t t1 t1", "put ^two", "put two", "put", "cut", "left", "put ", "mend ", "even", "left",
+            "z" * 4000, "(" * 4000, ")" * 4000, "a(. " * 1000,
             "a(" * 2000, "a" + "(" * 1999 + ")" * 2000, " " * 4000, "{}", "%s"]
 
 

@@ -154,8 +154,10 @@ class LookedUp(Case):
                 self.assertNotEqual(told, ())
 
     def test_at_other_values(self):
-        for value in [*odd_values(), ("cut", "two", True), ("cut", "two", False), ("cut", "two", 2), ("cut", "two", "0"),
-                      ("mend", "two", False, -1, "t"), ("mend", "two", 0, True, "two(. .)"), ("mend", "two", 0, -1, ["t"]),
+        for value in [*odd_values(), ("cut", "two", True), ("cut", "two", False), ("cut", "two", 2),
+                      ("cut", "two", "0"),
+                      ("mend", "two", False, -1, "t"), ("mend", "two", 0, True, "two(. .)"),
+                      ("mend", "two", 0, -1, ["t"]),
                       ("mend", "two", 0, -2, "t"), ("join", "t", "t", 0), ("join", "t", "t", False), ["put"],
                       ("put", "put"), ("cut", "two", 0, 1), ("top", "two(. .)"), ("cut", "two", TOO_LONG)]:
             fine = isinstance(value, tuple) and repr(value) in ("('put',)", "('cut', 'two', 0)",
@@ -211,7 +213,8 @@ class Changed(Case):
             self.refused(InvalidBook, TWOTHREE.with_drawing, drawing.line)
 
     def test_drawing_that_is_not_apart(self):
-        self.refused(InvalidBook, TWOTHREE.with_drawing, "mend two(!-1:t two(three(. . .) .)) to three(. three(. . .) .)")
+        self.refused(InvalidBook, TWOTHREE.with_drawing,
+                     "mend two(!-1:t two(three(. . .) .)) to three(. three(. . .) .)")
         self.refused(InvalidBook, REDS.with_drawing, "mend bb(!+0:red(. .) bb(. .)) to rb(red(. .) bb(. .))")
 
     def test_wrong_lines(self):
@@ -240,11 +243,13 @@ class Changed(Case):
 class Mirrored(Case):
 
     def test_drawings(self):
-        for book in (TWOTHREE, GLUE, REDS, balanced_book(), *[chance.book_of(number, tries=50) for number in range(30)]):
+        for book in (TWOTHREE, GLUE, REDS, balanced_book(),
+                     *[chance.book_of(number, tries=50) for number in range(30)]):
             mirrored = mirrored_book(book)
             scheme = mirrored_scheme(book.scheme)
             self.assertEqual(mirrored.scheme, scheme)
-            self.assertEqual({drawing.line for drawing in mirrored}, {drawing.mirrored(scheme).line for drawing in book})
+            self.assertEqual({drawing.line for drawing in mirrored},
+                             {drawing.mirrored(scheme).line for drawing in book})
             self.assertEqual(mirrored_book(mirrored), book)
 
     def test_no_book(self):
@@ -262,7 +267,8 @@ class Renamed(Case):
         renamed = renamed_book(book, {"x": "s", "s": "x"}, {"x": "y", "y": "z", "z": "x"})
         self.assertEqual(renamed.lines, (
             "bare s", "tops s", "form x x s1 s1", "form y s s1 s1", "form z s s1 s1 s1", "put ^y",
-            "cut z(x y(. .) .) to y(y(. .) .)", "mend y(!+1:y(. .) .) to z(. . .)", "mend z(!-1:s y(. .) .) to y(z(. . .) .)",
+            "cut z(x y(. .) .) to y(y(. .) .)", "mend y(!+1:y(. .) .) to z(. . .)",
+            "mend z(!-1:s y(. .) .) to y(z(. . .) .)",
             "top x(. .) to y(. .)", "join s x(. .) +1 to ^z(. . .)"))
 
     def test_there_and_back(self):

@@ -21,7 +21,8 @@ MIXED = Scheme.from_lines("bare b", "tops a b c", "form p a b1 c1", "form q b a1
 
 def right_trees(scheme, most):
     """For each number of keys the right trees in their order, made by force."""
-    return [sorted([tree for tree in trees if naive.is_right(scheme, tree)], key=lambda tree: naive.order_key(scheme, tree))
+    return [sorted([tree for tree in trees if naive.is_right(scheme, tree)],
+                   key=lambda tree: naive.order_key(scheme, tree))
             for trees in naive.sound_trees(scheme, most)]
 
 

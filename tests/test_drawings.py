@@ -65,11 +65,13 @@ class Lines(LineCase):
         self.refuses(T, "", " ", "put", "put ", "put two three", "put  two", " put two", "put two ", "Put two",
                      "cut two(x .)", "cut two(x .) .", "cut two(x .) to", "cut two(x .) to . .", "cut two(x .)  to .",
                      "cut two(x .) on .", "cut two(x .) to  .", "top two(. .) to two(. .)", "mend two(x .) to .",
-                     "join t t to two(. .)", "join t t +0 two(. .)", "join t +0 t to two(. .)", "join t t +0 to two(. .) .",
+                     "join t t to two(. .)", "join t t +0 two(. .)", "join t +0 t to two(. .)",
+                     "join t t +0 to two(. .) .",
                      "glue t t +0 to two(. .)", "put\ntwo", "cut two(x .)\nto .", "form two t t1 t1", "bare t")
 
     def test_values_that_are_no_lines(self):
-        self.refuses_odd(InvalidDrawing, lambda value: Drawing(T, value), lambda value: value in ("put two", "put ^two"))
+        self.refuses_odd(InvalidDrawing, lambda value: Drawing(T, value),
+                         lambda value: value in ("put two", "put ^two"))
         for line in ("put two", "put ^two"):
             self.refused(InvalidDrawing, Drawing, T, Drawing(T, line))
             self.refused(InvalidDrawing, Drawing, T, (line,))
@@ -83,7 +85,8 @@ class Lines(LineCase):
         self.refused(InvalidScheme, Drawing, None, None)
 
     def test_names_of_other_schemes(self):
-        self.refuses(T, "put ^even", "cut even(x .) to .", "cut two(x .) to even(. .)", "mend two(!+1:s .) to three(. . .)",
+        self.refuses(T, "put ^even", "cut even(x .) to .", "cut two(x .) to even(. .)",
+                     "mend two(!+1:s .) to three(. . .)",
                      "mend two(!+1:even(. .) .) to three(. . .)", "join t s +0 to two(. .)", "put ^two(. .)")
 
 
@@ -182,7 +185,8 @@ class Mends(LineCase):
 
     def test_hand_that_is_a_picture(self):
         mend = Drawing(T, "mend two(two(. two(. .)) !+1:two(. .)) to three(two(. two(. .)) . .)")
-        self.assertEqual((mend.place, mend.first), (("mend", "two", 1, 1, "two(. .)"), "two(two(. two(. .)) !+1:two(. .))"))
+        self.assertEqual((mend.place, mend.first), (("mend", "two", 1, 1, "two(. .)"),
+                                                    "two(two(. two(. .)) !+1:two(. .))"))
         self.assertEqual(mend.opened, {(0,): "two", (0, 1): "two"})
         self.assertEqual(list(mend.opened), [(0,), (0, 1)])
         self.assertEqual((mend.hand, mend.result, mend.is_odd, len(mend)), ("t", ("t", 0), False, 3))
@@ -256,7 +260,8 @@ class Mends(LineCase):
         left, right = "two(two(. .) .)", "two(. two(. two(. .)))"
         three = f"two({left} .)"
         self.assertEqual((Picture(three).levels, Picture(right).levels), (3, 3))
-        self.reads(T, f"mend two(!+1:{three} .) to three({left} . .)", f"mend two(!+1:two(. .) {right}) to three(. . {right})")
+        self.reads(T, f"mend two(!+1:{three} .) to three({left} . .)",
+                   f"mend two(!+1:two(. .) {right}) to three(. . {right})")
         self.assertEqual(Drawing(T, f"mend two(!+1:{three} .) to three({left} . .)").place[4], three)
         # The first pictures are too deep, the one with its hand, the other one beside it.
         self.refuses(T, f"mend two(!+1:two({three} .) .) to three({three} . .)",
@@ -277,21 +282,24 @@ class Mends(LineCase):
 
     def test_what_is_opened(self):
         mend = Drawing(R, "mend rr(!+0:lred(red(. .) .) red(. .)) to ^red(rb(red(. .) .) bb(. .))")
-        self.assertEqual((mend.opened, mend.hand, mend.second), ({(1,): "red"}, "red(. .)", "red(rb(red(. .) .) bb(. .))"))
+        self.assertEqual((mend.opened, mend.hand, mend.second),
+                         ({(1,): "red"}, "red(. .)", "red(rb(red(. .) .) bb(. .))"))
 
 
 class Tops(LineCase):
 
     def test_top(self):
         top = Drawing(R, "top red(. .) to bb(. .)")
-        self.assertEqual((top.kind, top.place, top.first, top.second), ("top", ("top", "red(. .)"), "red(. .)", "bb(. .)"))
+        self.assertEqual((top.kind, top.place, top.first, top.second),
+                         ("top", ("top", "red(. .)"), "red(. .)", "bb(. .)"))
         self.assertEqual((top.result, top.is_odd, top.hand, top.opened, len(top)), (("b", 1), False, "b", {}, 1))
         deep = Drawing(R, "top lred(red(. .) .) to rb(red(. .) .)")
         self.assertEqual((deep.place, deep.opened, deep.result), (("top", "lred(red(. .) .)"), {}, ("b", 1)))
 
     def test_sorts(self):
         self.refuses(R, "top bb(. .) to bb(. .)", "top red(. .) to red(. .)", "top red(. .) to ^bb(. .)",
-                     "top lred(. .) to red(. .)", "top r to b", "top . to .", "top red(. .) to .", "top red(. .) to br(. .)",
+                     "top lred(. .) to red(. .)", "top r to b", "top . to .", "top red(. .) to .",
+                     "top red(. .) to br(. .)",
                      "top red(x .) to .", "top red(!+0:r .) to bb(. .)", "top ^red(. .) to bb(. .)")
 
 
@@ -321,7 +329,8 @@ class Joins(LineCase):
         self.reads(R, "join b red(. .) +0 to br(. red(. .))", "join b b +0 to ^red(. .)", "join r b +0 to rb(. .)")
 
     def test_differences(self):
-        scheme = Scheme.from_lines("bare t", "tops t", "form a t t2 t0", "form b t t0 t2", "form c t t3 t0", "form d t t0 t3")
+        scheme = Scheme.from_lines("bare t", "tops t", "form a t t2 t0", "form b t t0 t2", "form c t t3 t0",
+                                   "form d t t0 t3")
         self.assertEqual(Drawing(scheme, "join t t +2 to a(. .)").result, ("t", 2))
         self.assertEqual(Drawing(scheme, "join t t -2 to b(. .)").place, ("join", "t", "t", -2))
         self.refuses(scheme, "join t t +3 to c(. .)", "join t t -3 to d(. .)", "join t t 2 to a(. .)",
@@ -449,7 +458,8 @@ class Clash(Case):
             self.assertIs(self.judged(clash, right, left), told)
 
     def test_other_places(self):
-        for one, other in (("cut two(x .) to .", "cut two(. x) to ."), ("cut three(x . .) to two(. .)", "cut two(x .) to ."),
+        for one, other in (("cut two(x .) to .", "cut two(. x) to ."),
+                           ("cut three(x . .) to two(. .)", "cut two(x .) to ."),
                            ("mend two(!-1:t two(. .)) to three(. . .)", "mend two(two(. .) !-1:t) to three(. . .)"),
                            ("mend two(!+1:two(. .) .) to three(. . .)", "mend two(!-1:t two(. .)) to three(. . .)"),
                            ("mend two(!+1:two(. .) .) to three(. . .)", "cut two(x .) to .")):
@@ -461,7 +471,8 @@ class Clash(Case):
         self.assertIs(clash(Drawing(R, "top red(. .) to bb(. .)"), Drawing(R, "top lred(. .) to rb(. .)")), False)
 
     def test_joins(self):
-        told = ["join t t +0 to two(. .)", "join two(. .) t +0 to two(two(. .) .)", "join t two(. .) +0 to two(. two(. .))",
+        told = ["join t t +0 to two(. .)", "join two(. .) t +0 to two(two(. .) .)",
+                "join t two(. .) +0 to two(. two(. .))",
                 "join three(. . .) t +0 to two(three(. . .) .)",
                 "join three(. . .) two(. .) +0 to two(three(. . .) two(. .))", "join t two(. .) +1 to three(. . .)"]
         apart = {(1, 3), (1, 4)}

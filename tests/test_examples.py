@@ -57,7 +57,8 @@ class Examples(unittest.TestCase):
     def test_books(self):
         place = ("mend", "two", 0, -1, "t")
         self.assertEqual(
-            [str(TWOTHREE), TWOTHREE.put_drawing.line, len(TWOTHREE.at(place)), "put ^two" in TWOTHREE, TWOTHREE.places[0]],
+            [str(TWOTHREE), TWOTHREE.put_drawing.line, len(TWOTHREE.at(place)), "put ^two" in TWOTHREE,
+             TWOTHREE.places[0]],
             ["book of 2 forms, 21 drawings", "put ^two", 2, True, ("cut", "three", 0)])
         self.assertEqual([choice(TWOTHREE, place, {(1,): "two"}).result, choice(TWOTHREE, place, {}),
                           mirrored_book(TWOTHREE) == TWOTHREE], [("t", -1), None, False])
@@ -67,7 +68,8 @@ class Examples(unittest.TestCase):
         lean = Shape.node(scheme, "left", (leaf, Shape(scheme, ())))
         both = Shape.node(scheme, "even", (lean, lean))
         self.assertEqual([both.rows, str(both), both.spot, both.is_right, both.path_to(4)],
-                         [(("even", (None, None)), ("left", (0, None)), ("even", (1, 1))), "shape with 5 keys, height 3",
+                         [(("even", (None, None)), ("left", (0, None)), ("even", (1, 1))),
+                          "shape with 5 keys, height 3",
                           ("t", 3), True, (1, 0, 1)])
         self.assertEqual([both.name_at((1, 0)), Shape.node(scheme, "even", (lean, leaf)).fault,
                           both.replaced((0,), leaf).spot], ["even", 2, None])
@@ -80,7 +82,8 @@ class Examples(unittest.TestCase):
             ["ranks from 0 on by 1", 12, ("even",), ("even", "left", "right"), [0, 1, 2, 4, 7, 12], ("t",)])
         thirds = Ranks(Scheme.from_lines("bare a", "tops a", "form x b a3 a3", "form y a b3 b3"))
         self.assertEqual(
-            [thirds.turn, thirds.period, thirds.sorts_at(3), thirds.sorts_at(4), thirds.sorts_at(6), thirds.around("b", 3),
+            [thirds.turn, thirds.period, thirds.sorts_at(3), thirds.sorts_at(4), thirds.sorts_at(6),
+             thirds.around("b", 3),
              thirds.least("b", 9), thirds.choices_at("a", 0)], [0, 6, ("b",), (), ("a",), 2, 7, ("",)])
 
     def test_counts(self):
@@ -88,7 +91,8 @@ class Examples(unittest.TestCase):
                           [count_right(TWOTHREE.scheme, keys) for keys in range(8)], count_sound(HEIGHTS, "t", 3, 4)],
                          [[1, 1, 2, 1, 4, 6, 4, 17], [1, 1, 1, 1, 2, 2, 3, 4], 4])
         self.assertEqual([shape.rows for shape in each_right(HEIGHTS, 2)],
-                         [(("even", (None, None)), ("left", (0, None))), (("even", (None, None)), ("right", (None, 0)))])
+                         [(("even", (None, None)), ("left", (0, None))),
+                          (("even", (None, None)), ("right", (None, 0)))])
         self.assertEqual(number_of(right_at(HEIGHTS, 7, 11)), 11)
 
     def test_heights(self):

@@ -18,7 +18,8 @@ KNOWN = (EACH, THIRDS, SOME, LEVEL, HIDDEN, CLIMB, TWOTHREE, REDBLACK, R)
 
 def some_schemes(many):
     for number in range(many):
-        scheme = chance.scheme_of(number, "abc" if number % 3 else "ab", 4, (0, 1, 1, 2, 3) if number % 2 else (0, 1, 2))
+        scheme = chance.scheme_of(number, "abc" if number % 3 else "ab", 4,
+                                  (0, 1, 1, 2, 3) if number % 2 else (0, 1, 2))
         try:
             Ranks(scheme)
         except TooMany:

@@ -8,16 +8,16 @@ import unittest
 from tests.test_language import trees
 
 ALLOWED_BUILTINS = set(
-    "len range enumerate zip min max sum abs sorted reversed int str bool bytes list tuple dict set frozenset isinstance "
-    "ord repr any all divmod pow getattr hasattr setattr Exception ValueError TypeError KeyError IndexError LookupError "
-    "ZeroDivisionError ArithmeticError OverflowError RuntimeError NotImplementedError AttributeError StopIteration "
-    "NotImplemented iter next map super property classmethod staticmethod type".split())
+    "len range enumerate zip min max sum abs sorted reversed int str bool bytes list tuple dict set frozenset "
+    "isinstance ord repr any all divmod pow getattr hasattr setattr Exception ValueError TypeError KeyError IndexError "
+    "LookupError ZeroDivisionError ArithmeticError OverflowError RuntimeError NotImplementedError AttributeError "
+    "StopIteration NotImplemented iter next map super property classmethod staticmethod type".split())
 ALLOWED_METHODS = set(
-    "append clear copy count endswith extend find get index insert isalnum isalpha isdigit islower isspace isupper items "
-    "join keys ljust lower lstrip partition pop remove replace reverse rfind rjust rpartition rsplit rstrip setdefault "
-    "split splitlines startswith strip update upper values zfill bit_length title capitalize swapcase casefold center "
-    "expandtabs removeprefix removesuffix rindex isascii isdecimal isnumeric istitle isidentifier isprintable translate "
-    "add discard".split())
+    "append clear copy count endswith extend find get index insert isalnum isalpha isdigit islower isspace isupper "
+    "items join keys ljust lower lstrip partition pop remove replace reverse rfind rjust rpartition rsplit rstrip "
+    "setdefault split splitlines startswith strip update upper values zfill bit_length title capitalize swapcase "
+    "casefold center expandtabs removeprefix removesuffix rindex isascii isdecimal isnumeric istitle isidentifier "
+    "isprintable translate add discard".split())
 BARRED = set("register mro elements open input law version_info with_traceback add_note".split())
 BARRED_NAMES = BARRED | set(
     "attrgetter breakpoint builtins compile copyright credits delattr dir eval exec exit gc globals help id importlib "
@@ -208,7 +208,8 @@ class Statements(unittest.TestCase):
     def test_what_a_loop_goes_over_is_not_changed(self):
         for path, tree in trees():
             for loop in [node for node in ast.walk(tree) if isinstance(node, ast.For)]:
-                over = {ast.unparse(part) for part in ast.walk(loop.iter) if isinstance(part, (ast.Name, ast.Attribute))}
+                over = {ast.unparse(part) for part in ast.walk(loop.iter) if isinstance(part,
+                                                                                        (ast.Name, ast.Attribute))}
                 for node in [part for line in loop.body for part in ast.walk(line)]:
                     if isinstance(node, ast.Call) and isinstance(node.func, ast.Attribute):
                         if node.func.attr in CHANGING:
@@ -252,7 +253,8 @@ class Statements(unittest.TestCase):
         for path, tree in trees():
             name = ".".join(path.with_suffix("").parts[path.parts.index("mendbooks"):])
             defined[name] = {node.name for node in tree.body if isinstance(node, (ast.FunctionDef, ast.ClassDef))}
-            defined[name] |= {target.id for node in tree.body if isinstance(node, ast.Assign) for target in node.targets}
+            defined[name] |= {target.id for node in tree.body if isinstance(node,
+                                                                            ast.Assign) for target in node.targets}
         for path, tree in trees():
             for node in tree.body:
                 if isinstance(node, ast.ImportFrom) and node.module.startswith("mendbooks."):

@@ -206,7 +206,8 @@ class Paths(Case):
     def test_paths_that_are_none(self):
         for call in (LEAN.below, LEAN.name_at, lambda path: LEAN.replaced(path, LEAF)):
             fine = [(), (0,), (1,), (0, 0), (0, 1)]
-            for value in [*odd_values(), (1, 0), (2,), (-1,), (0, 2), (0, 0, 0), (True,), (0, False), [0], "0", 0, (None,),
+            for value in [*odd_values(), (1, 0), (2,), (-1,), (0, 2), (0, 0, 0), (True,), (0, False), [0], "0", 0,
+                          (None,),
                           ("0",), ((0,),), (TOO_LONG,)]:
                 if any(value == path and repr(value) == repr(path) for path in fine):
                     call(value)
@@ -264,7 +265,8 @@ class Mirrored(Case):
         for scheme, tree in trees():
             shape = Shape(scheme, naive.plain_rows(tree))
             mirrored = shape.mirrored()
-            self.assertEqual((mirrored.scheme, mirrored.rows), (mirrored_scheme(scheme), naive.plain_rows(turned(tree))))
+            self.assertEqual((mirrored.scheme, mirrored.rows),
+                             (mirrored_scheme(scheme), naive.plain_rows(turned(tree))))
             self.assertEqual((mirrored.size, mirrored.spot, mirrored.mirrored()), (shape.size, shape.spot, shape))
 
 
@@ -304,4 +306,5 @@ class Chance(Case):
             for keys in naive.sound_trees(scheme, 4):
                 for tree in keys[:40]:
                     shape = Shape(scheme, naive.plain_rows(tree))
-                    self.assertEqual((shape.spot, shape.is_right), (naive.spot_of(scheme, tree), naive.is_right(scheme, tree)))
+                    self.assertEqual((shape.spot, shape.is_right),
+                                     (naive.spot_of(scheme, tree), naive.is_right(scheme, tree)))

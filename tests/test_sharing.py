@@ -28,7 +28,8 @@ def state():
     return (HEIGHTS.lines, HEIGHTS.names, HEIGHTS.sorts, HEIGHTS.of_sort("t"), HEIGHTS.parents("t", 1),
             [(form.called, form.sort_name, form.children) for form in HEIGHTS.forms], REDBLACK.lines,
             PICTURE.text, PICTURE.names, PICTURE.holes, PICTURE.levels, list(PICTURE.paths()),
-            [part.text for part in PICTURE.parts], REDS.lines, REDS.places, MEND.line, MEND.place, MEND.opened, MEND.hand,
+            [part.text for part in PICTURE.parts], REDS.lines, REDS.places, MEND.line, MEND.place, MEND.opened,
+            MEND.hand,
             SHAPE.rows, SHAPE.size, SHAPE.spot, RANKS.turn, [RANKS.least("r", rank) for rank in range(9)],
             [RANKS.useful_at(rank) for rank in range(9)], TABLE.rows, TABLE.starts, TABLE.leads(TABLE.rows[3]),
             TABLE.open_rows, TABLE.open_starts)
@@ -69,10 +70,13 @@ def drawn(value):
 
 def ranked(value):
     return [
-        (Ranks, value), (RANKS.base_of, value), (RANKS.sorts_at, value), (RANKS.forms_at, value), (RANKS.useful_at, value),
-        (RANKS.choices_at, value, 1), (RANKS.choices_at, "r", value), (RANKS.least, value, 1), (RANKS.least, "r", value),
+        (Ranks, value), (RANKS.base_of, value), (RANKS.sorts_at, value), (RANKS.forms_at, value),
+        (RANKS.useful_at, value),
+        (RANKS.choices_at, value, 1), (RANKS.choices_at, "r", value), (RANKS.least, value, 1),
+        (RANKS.least, "r", value),
         (RANKS.least_shape, "r", value), (RANKS.around, "r", value), (RANKS.around, value, 1), (RANKS.hung, value),
-        (count_sound, value, "b", 1, 1), (count_sound, REDS.scheme, value, value, value), (count_right, REDS.scheme, value),
+        (count_sound, value, "b", 1, 1), (count_sound, REDS.scheme, value, value, value),
+        (count_right, REDS.scheme, value),
         (lambda: list(each_right(value, 2)),), (right_at, REDS.scheme, 3, value), (number_of, value),
         (least_keys, value, 3), (most_keys, REDS.scheme, value), (greatest_height, value, 3), (least_height, value, 3),
         (tall_tree, value, 3),
@@ -83,8 +87,10 @@ def decided(value):
     return [
         (is_deed, value, ("put", 0)), (is_deed, SHAPE, value), (put, value, SHAPE, 0), (put, REDS, value, 0),
         (put, REDS, SHAPE, value), (cut, REDS, SHAPE, value), (steps, REDS, SHAPE, value), (steps, value, value, value),
-        (failing_place, REDS, SHAPE, value), (fresh_nodes, REDS, SHAPE, value), (Table, value, "put"), (Table, REDS, value),
-        (TABLE.leads, value), (TABLE.way, value), (TABLE.__contains__, value), (beside, value, ROW), (beside, REDS, value),
+        (failing_place, REDS, SHAPE, value), (fresh_nodes, REDS, SHAPE, value), (Table, value, "put"),
+        (Table, REDS, value),
+        (TABLE.leads, value), (TABLE.way, value), (TABLE.__contains__, value), (beside, value, ROW),
+        (beside, REDS, value),
         (is_beside, REDS, value, {}), (is_beside, REDS, ROW, value),
     ]
 
@@ -124,7 +130,8 @@ class Sharing(unittest.TestCase):
                  MEND.result, list(MEND.opened)[0], SHAPE.rows, SHAPE.rows[1], SHAPE.rows[1][1], SHAPE.spot,
                  SHAPE.path_to(2), RANKS.sorts_at(3), RANKS.forms_at(3), RANKS.useful_at(3), RANKS.choices_at("b", 0),
                  RANKS.choices_at("b", 99), RANKS.choices_at("r", 0), RANKS.hung(SHAPE), RANKS.hung(SHAPE)[1],
-                 steps(REDS, SHAPE, ("put", 0)), steps(REDS, SHAPE, ("put", 0))[0], steps(REDS, SHAPE, ("put", 0))[0][0],
+                 steps(REDS, SHAPE, ("put", 0)), steps(REDS, SHAPE, ("put", 0))[0],
+                 steps(REDS, SHAPE, ("put", 0))[0][0],
                  failing_place(REDS, SHAPE, ("cut", 0)), TABLE.rows, TABLE.rows[1], TABLE.starts, TABLE.open_rows,
                  TABLE.open_starts, TABLE.way(TABLE.rows[1]), list(TABLE.leads(TABLE.rows[1]).values())[0]]
         for value in found:

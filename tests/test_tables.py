@@ -34,12 +34,13 @@ def with_ranks(numbers, tries=80):
 
 
 def wide_book(many):
-    """A book whose put leads to some 600 rows for each of so many hands, and to those of the put."""
-    steps = [told for told in itertools.product((1, 2, 3), repeat=4) if 1 in told][:19]
-    names = [f"g{chr(97 + at)}" for at in range(19)]
-    forms = [f"form {name} t t{a} t{b} t{c} t{d}" for name, (a, b, c, d) in zip(names, steps)]
-    lines = [f"mend {top}({name}(. . . .) !+0:s) to ^{new}(^{name}(. . . .) .)"
-             for top, new in (("f", "k"), ("e", "q")) for name in names]
+    """A book whose put leads to some 540 rows for each of so many hands; to just 20000 rows in all for 35 hands."""
+    steps = [told for width in (4, 3) for told in itertools.product((1, 2, 3), repeat=width) if 1 in told]
+    chosen = {f"g{chr(97 + at)}": steps[(43 + 5 * at) % len(steps)] for at in range(19)}
+    forms = [f"form {name} t {' '.join(f't{step}' for step in told)}" for name, told in chosen.items()]
+    nodes = [(name, " ".join("." * len(told))) for name, told in chosen.items()]
+    lines = [f"mend {top}({name}({holes}) !+0:s) to ^{new}(^{name}({holes}) .)"
+             for top, new in (("f", "k"), ("e", "q")) for name, holes in nodes]
     return Book.from_lines("bare t", "tops t", "form f t t1 t1", "form k s t1 s1", "form p s t0 t0", "form e t t1 t2",
                            "form q s t1 s2", *forms, "put p", "mend f(f(. .) !+0:s) to k(f(. .) .)",
                            "mend e(f(. .) !+0:s) to q(f(. .) .)", *lines[:many])
@@ -117,8 +118,10 @@ class Closed(Case):
         book = Book.from_lines(
             *T.lines, "put ^two", "mend two(two(. two(. .)) !+1:two(. .)) to three(two(. two(. .)) . .)",
             "mend two(two(. three(. . .)) !+1:two(. .)) to three(two(. three(. . .)) . .)",
-            "mend two(three(. . .) !+1:two(. .)) to three(three(. . .) . .)", "mend two(!+1:two(. .) .) to three(. . .)",
-            "join two(. two(. .)) two(. .) +0 to two(two(. two(. .)) two(. .))", "join three(. . .) t +0 to two(three(. . .) .)",
+            "mend two(three(. . .) !+1:two(. .)) to three(three(. . .) . .)",
+            "mend two(!+1:two(. .) .) to three(. . .)",
+            "join two(. two(. .)) two(. .) +0 to two(two(. two(. .)) two(. .))",
+            "join three(. . .) t +0 to two(three(. . .) .)",
             "join two(. .) three(two(. .) . .) +0 to two(two(. .) three(two(. .) . .))")
         self.check_book(book)
         row = ("two", 1, 1, "two(. .)", 2)
@@ -151,7 +154,8 @@ class Good(Case):
 
     def test_examples(self):
         table = Table(TWOTHREE, "put")
-        self.assertEqual((str(table), str(Table(TWOTHREE, "cut"))), ("table of 61 rows, 0 open", "table of 56 rows, 0 open"))
+        self.assertEqual((str(table), str(Table(TWOTHREE, "cut"))),
+                         ("table of 61 rows, 0 open", "table of 56 rows, 0 open"))
         self.assertEqual(table.rows[0], ("", 0, 0, "two(. .)", 0))
         self.assertEqual(str(Table(LESS, "put")), "table of 61 rows, 12 open")
         self.assertEqual((len(Table(GLUE, "left")), len(Table(GLUE, "right"))), (25, 25))
@@ -176,7 +180,8 @@ class Good(Case):
     def test_starts(self):
         self.assertEqual(Table(TWOTHREE, "put").starts, (("put",),))
         self.assertEqual(Table(TWOTHREE, "cut").starts, (
-            ("cut", "three", 0, 1), ("cut", "three", 1, 1), ("cut", "three", 2, 1), ("cut", "two", 0, 1), ("cut", "two", 1, 1)))
+            ("cut", "three", 0, 1), ("cut", "three", 1, 1), ("cut", "three", 2, 1), ("cut", "two", 0, 1),
+            ("cut", "two", 1, 1)))
         self.assertEqual(Table(GLUE, "left").starts, tuple(("join", "t", "t", 0, rank) for rank in range(13)))
         self.assertEqual(Table(GLUE, "right").starts, Table(GLUE, "left").starts)
         far = Book.from_lines("bare t", "tops t", "form one t t1 t2", "form two t t3 t2", "form up t t1 t1", "put up")
@@ -198,14 +203,15 @@ class Good(Case):
         self.assertEqual({row[4] for row in table.rows}, set(range(13)))
         row = ("three", 0, 1, "two(. .)", 12)
         self.assertEqual(table.leads(row)["mend three(!+1:two(. .) . .) to ^two(two(. .) two(. .))"],
-                         tuple(sorted([("", 0, 0, "two(. .)", 0)] + [(form, index, 1, "two(. .)", 12) for form, index in (
+                         tuple(sorted([("", 0, 0, "two(. .)", 0)] + [(form, index, 1, "two(. .)", 12) for form,
+                                                                     index in (
                              ("three", 0), ("three", 1), ("three", 2), ("two", 0), ("two", 1))])))
 
     def test_20000_rows_and_more(self):
-        table = Table(wide_book(31), "put")
-        self.assertTrue(19000 < len(table) <= 20000)
-        self.refused(TooMany, Table, wide_book(34), "put", limit=20000)
-        self.assertEqual(len(Table(wide_book(34), "cut")), 0)
+        table = Table(wide_book(35), "put")
+        self.assertEqual((len(table), len(table.rows)), (20000, 20000))
+        self.refused(TooMany, Table, wide_book(36), "put", limit=20000)
+        self.assertEqual(len(Table(wide_book(36), "cut")), 0)
 
     def test_schemes_that_repeat_too_late(self):
         book = Book.from_lines(*rings(3).lines, "put ^se")
@@ -233,7 +239,8 @@ class Asked(Case):
             self.assertIn(row, table)
             self.assertNotIn(list(row), table)
             self.assertNotIn((*row, 0), table)
-        for row in (("put",), ("two", 0, True, "two(. .)", 1), ("two", False, 1, "two(. .)", 1), ("two", 0, 1, "two(. .)", True),
+        for row in (("put",), ("two", 0, True, "two(. .)", 1), ("two", False, 1, "two(. .)", 1),
+                    ("two", 0, 1, "two(. .)", True),
                     ("two", 0, 1, "two(. .)", 13), ("two", 0, 1, ["two(. .)"], 1), ("two", 0, 1, "t", 1)):
             self.assertNotIn(row, table)
         self.assertIn(("two", 0, 1, "two(. .)", 1), table)
@@ -243,7 +250,8 @@ class Asked(Case):
     def test_leads_and_ways_of_other_values(self):
         for kind in DEEDS:
             table = Table(GLUE, kind)
-            for value in [*odd_values(), ("cut", "two", True, 1), ("cut", "two", 0, True), ("two", 0, True, "two(. .)", 2),
+            for value in [*odd_values(), ("cut", "two", True, 1), ("cut", "two", 0, True),
+                          ("two", 0, True, "two(. .)", 2),
                           ("join", "t", "t", False, 0), ["put"], ("put", 0), ("three", 2, 1, "two(. .)", 13)]:
                 told = repr(value)
                 if not (value == ("put",) and kind == "put" or value == ("cut", "two", 0, 1) and kind == "cut"
@@ -314,7 +322,8 @@ class Cases(Case):
                     self.assertIs(self.judged(is_beside, book, row, case), True)
 
     def test_judge_takes_each_case_and_nothing_else(self):
-        for book in (LESS, GLUE, REDS.without("mend bb(!+0:red(. .) .) to rb(red(. .) .)"), *with_ranks(range(500, 506), 100)):
+        for book in (LESS, GLUE, REDS.without("mend bb(!+0:red(. .) .) to rb(red(. .) .)"),
+                     *with_ranks(range(500, 506), 100)):
             closure = Closure(book, "put")
             names = [None, *book.scheme.names]
             paths = [(), (0,), (1,), (2,), (0, 0), (1, 1), (0, 0, 0)]
@@ -323,7 +332,8 @@ class Cases(Case):
                     for chosen in itertools.combinations(paths, many):
                         for told in itertools.product(names, repeat=many):
                             case = dict(zip(chosen, told))
-                            right = case == {} and closure.is_case(row, case) if row[0] == "" else closure.is_case(row, case)
+                            right = case == {} and closure.is_case(row, case) if row[0] == "" else closure.is_case(row,
+                                                                                                                   case)
                             self.assertIs(is_beside(book, row, case), right, (row, case))
 
     def test_example(self):
@@ -335,8 +345,10 @@ class Cases(Case):
     def test_paths_of_cases(self):
         row = ("three", 2, 1, "two(. .)", 4)
         for case, right in (({(0,): "two", (0, 1): "three", (0, 1, 0): "two"}, True), ({(2,): "two"}, False),
-                            ({(): "three"}, False), ({(0, 1): "two"}, False), ({(3,): "two"}, False), ({(-1,): "two"}, False),
-                            ({(2, 0): "two"}, False), ({(0,): None}, False), ({(0,): "four"}, False), ({(0,): ""}, False),
+                            ({(): "three"}, False), ({(0, 1): "two"}, False), ({(3,): "two"}, False),
+                            ({(-1,): "two"}, False),
+                            ({(2, 0): "two"}, False), ({(0,): None}, False), ({(0,): "four"}, False),
+                            ({(0,): ""}, False),
                             ({(0,): "two", (0, 2): "two"}, False), ({(0,): "three", (0, 2): "two"}, True)):
             self.assertIs(is_beside(LESS, row, case), right, case)
         low = ("three", 2, 1, "two(. .)", 1)
@@ -348,7 +360,8 @@ class Cases(Case):
         row = ("two", 0, -1, "t", 4)
         less = TWOTHREE.without("mend two(!-1:t two(. .)) to three(. . .)")
         self.assertEqual(beside(less, row), {(1,): "two"})
-        for case, right in (({(1,): "two"}, True), ({(1,): "three"}, False), ({}, False), ({(1,): "two", (1, 0): "two"}, True)):
+        for case, right in (({(1,): "two"}, True), ({(1,): "three"}, False), ({}, False),
+                            ({(1,): "two", (1, 0): "two"}, True)):
             self.assertIs(is_beside(less, row, case), right)
             self.assertIs(is_beside(TWOTHREE, row, case), False)
         self.assertEqual(beside(less, ("two", 0, -1, "t", 2)), {(1,): "two"})
@@ -375,8 +388,10 @@ class Cases(Case):
                  ("two", 0, 1, None, 3), ("two", 0, 1, ("t",), 3), ("two", 0, "1", "t", 3), ("two", 0, 1, 7, 3),
                  ("four", 0, 1, "t", 3), ("", 0, 0, ".", 0), ("", 0, 0, "s", 0), ("", 1, 0, "t", 0), ("", 0, 1, "t", 0),
                  ("", 0, 0, "t", 1), ("", False, 0, "t", 0), ("", 0, 0, "t", False), ("join", "t", "t", 3, 0),
-                 ("join", "t", "t", -3, 0), ("join", "s", "t", 0, 0), ("join", "t", "s", 0, 0), ("join", "t", "t", 0, 13),
-                 ("join", "t", "t", True, 0), ("join", "t", "t", 0, -1), ("join", "t", "t", 0), ("glue", "t", "t", 0, 0),
+                 ("join", "t", "t", -3, 0), ("join", "s", "t", 0, 0), ("join", "t", "s", 0, 0),
+                 ("join", "t", "t", 0, 13),
+                 ("join", "t", "t", True, 0), ("join", "t", "t", 0, -1), ("join", "t", "t", 0),
+                 ("glue", "t", "t", 0, 0),
                  ("two", 0, 1, "t", TOO_LONG), ("two", 0, TOO_LONG, "t", 3), ("join", "t", "t", "0", 0)]
         for value in [*odd_values(), *wrong]:
             fine = ("('put',)", "('cut', 'two', 0, 1)", "('two', 0, -1, 't', 2)", "('', 0, 0, 't', 0)",
@@ -398,7 +413,8 @@ class Cases(Case):
 
     def test_books_that_are_none(self):
         self.refuses_odd(InvalidBook, lambda value: beside(value, ("put",)), lambda value: isinstance(value, Book))
-        self.refuses_odd(InvalidBook, lambda value: is_beside(value, ("put",), {}), lambda value: isinstance(value, Book))
+        self.refuses_odd(InvalidBook, lambda value: is_beside(value, ("put",), {}),
+                         lambda value: isinstance(value, Book))
         self.refused(InvalidBook, beside, None, None)
         self.assertIsNone(beside(TWOTHREE, ("put",)))
 

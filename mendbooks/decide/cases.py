@@ -30,7 +30,7 @@ class Site:
         """Whether some drawing fits, whatever stands here."""
         return self._is_right_top or self._is_full(self._drawings, {})
 
-    def case(self):
+    def open_case(self):
         """What can stand here so that no drawing fits, with None for an empty tree; None if this cannot be."""
         if self.is_covered():
             return None

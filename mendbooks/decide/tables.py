@@ -99,7 +99,7 @@ class Table:
 
 def beside(book, row):
     """What can stand at a row or a start so that no drawing fits, None if it is covered."""
-    return _site_of(book, row).case()
+    return _site_of(book, row).open_case()
 
 
 def is_beside(book, row, value):
