@@ -142,6 +142,13 @@ class Good(Case):
             mirrored = mirrored_book(book)
             self.assertEqual(tuple(Table(mirrored, kind).is_good for kind in ("put", "cut")), good[:2])
 
+    def test_mirrored_books_are_as_good(self):
+        for book in (LESS, REDS, balanced_book(), *with_ranks(range(600, 640))):
+            for kind in ("put", "cut"):
+                one, other = Table(book, kind), Table(mirrored_book(book), kind)
+                self.assertEqual((other.is_good, len(other), len(other.open_rows), len(other.open_starts)),
+                                 (one.is_good, len(one), len(one.open_rows), len(one.open_starts)))
+
     def test_beside_deeds_in_small_trees(self):
         for book in (TWOTHREE, GLUE, LESS, REDS, balanced_book(), *with_ranks(range(40), 100)):
             for kind in ("put", "cut"):
