@@ -1,6 +1,7 @@
 """What can be counted of the language of the package: its files, their sizes and characters."""
 
 import ast
+import functools
 import pathlib
 import re
 import unittest
@@ -19,6 +20,7 @@ def files():
     return [path for path in entries() if path.is_file()]
 
 
+@functools.cache
 def trees():
     return [(path, ast.parse(path.read_text(encoding="utf-8"))) for path in files()]
 

@@ -2,6 +2,7 @@
 
 import ast
 import builtins
+import functools
 import re
 import unittest
 
@@ -44,6 +45,25 @@ def methods(owner):
 def stored_attributes():
     return {node.attr for _, tree in trees() for node in ast.walk(tree)
             if isinstance(node, ast.Attribute) and isinstance(node.ctx, ast.Store)}
+
+
+@functools.cache
+def property_names():
+    return {node.name for owner in classes() for node in methods(owner) if is_property(node)}
+
+
+@functools.cache
+def generator_names():
+    return {node.name for _, tree in trees() for node in functions(tree)
+            if any(isinstance(part, (ast.Yield, ast.YieldFrom)) for part in ast.walk(node))}
+
+
+def is_generated(node):
+    """Whether a node is the call of an own generator."""
+    if not isinstance(node, ast.Call):
+        return False
+    word = node.func.attr if isinstance(node.func, ast.Attribute) else getattr(node.func, "id", None)
+    return word in generator_names()
 
 
 def called(node):
@@ -100,11 +120,9 @@ class Names(unittest.TestCase):
             self.assertEqual(len(names), len(set(names)), path)
 
     def test_properties(self):
-        told = [node for owner in classes() for node in methods(owner)]
-        properties = {node.name for node in told if is_property(node)}
-        plain = {node.name for node in told if not is_property(node)}
-        self.assertEqual(properties & plain, set())
-        self.assertEqual(properties & stored_attributes(), set())
+        plain = {node.name for owner in classes() for node in methods(owner) if not is_property(node)}
+        self.assertEqual(property_names() & plain, set())
+        self.assertEqual(property_names() & stored_attributes(), set())
 
     def test_methods_and_attributes_of_a_class(self):
         for owner in classes():
@@ -114,11 +132,26 @@ class Names(unittest.TestCase):
         self.assertEqual(plain & stored_attributes(), set())
 
     def test_generators_have_names_of_their_own(self):
-        told = [node for _, tree in trees() for node in functions(tree)]
-        generators = [node.name for node in told
-                      if any(isinstance(part, (ast.Yield, ast.YieldFrom)) for part in ast.walk(node))]
-        for name in generators:
-            self.assertEqual([node.name for node in told].count(name), 1, name)
+        told = [node.name for _, tree in trees() for node in functions(tree)]
+        self.assertGreater(len(generator_names()), 1)
+        for name in generator_names():
+            self.assertEqual(told.count(name), 1, name)
+
+    def test_what_stands_beside_the_call_of_a_generator(self):
+        # The properties themselves count too: what they run would stand beside a call that is being iterated.
+        plain = (ast.Name, ast.Attribute, ast.Constant, ast.Lambda)
+        properties = property_names()
+        found = 0
+        for path, tree in trees():
+            for node in [node for node in ast.walk(tree) if isinstance(node, ast.Call)]:
+                parts = [*node.args, *(word.value for word in node.keywords)]
+                if any(map(is_generated, parts)):
+                    found += 1
+                    for part in parts:
+                        self.assertTrue(is_generated(part) or isinstance(part, plain), (path, node.lineno))
+                        told = {word.attr for word in ast.walk(part) if isinstance(word, ast.Attribute)}
+                        self.assertEqual(told & properties, set(), (path, node.lineno))
+        self.assertGreater(found, 0)
 
     def test_underscores(self):
         allowed = {"__init__", "__eq__", "__str__", "__len__", "__iter__", "__getitem__", "__contains__", "__bool__"}

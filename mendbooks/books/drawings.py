@@ -179,7 +179,8 @@ def _opened_pairs(kind, found):
     """The pairs of a path and a name that a drawing asks for; what stands at a single top is known to it."""
     pairs = []
     for side, picture in enumerate(found.pictures):
-        for path, name in zip(picture.paths(), picture.names):
+        names = picture.names
+        for path, name in zip(picture.paths(), names):
             if kind == "join":
                 pairs.append(((side, *path), name))
             elif path != ():
