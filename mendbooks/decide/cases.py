@@ -1,9 +1,11 @@
 """Whether a drawing fits at a place whatever stands there, and what can stand there if none fits."""
 
+from heapq import heappop, heappush
 from math import lcm
 
 from mendbooks.base.words import is_indices
 from mendbooks.books.sides import side_of
+from mendbooks.decide.rows import place_of, spots_beside
 
 
 class Site:
@@ -16,9 +18,15 @@ class Site:
     def __init__(self, book, existence, row):
         self._scheme = book.scheme
         self._existence = existence
+        self._row = row
         self._drawings = book.at(place_of(row))
-        self._spots = _spots_beside(book.scheme, row)
+        self._spots = spots_beside(book.scheme, row)
         self._is_right_top = row[0] == "" and side_of(book.scheme, row[3])[0] in book.scheme.tops
+
+    @property
+    def row(self):
+        """The row or the start."""
+        return self._row
 
     def fitting(self):
         """The drawings that can fit here; a right tree needs none at its top."""
@@ -41,6 +49,26 @@ class Site:
             case[path] = self._open_choice(rest, case, path)
             rest = [drawing for drawing in rest if not _is_refuted(drawing, case)]
         return {path: case[path] if case[path] else None for path in sorted(case)}
+
+    def cheapest_open_case(self, growth):
+        """A case in which no drawing fits, and in which as few keys as possible stand; None if there is none."""
+        if self.is_covered():
+            return None
+        cases = [({}, self._drawings)]
+        queue = []
+        heappush(queue, (growth.keys_of(self._row, {}), 0))
+        while True:
+            # What a case tells more can only cost more keys, so the first case without drawings is a cheapest one.
+            case, rest = cases[heappop(queue)[1]]
+            if not rest:
+                return case
+            path = _next_path(rest[0], case)
+            for choice in self._choices_at(self._spots_in(case)[path]):
+                narrow = {**case, path: choice}
+                fewer = [drawing for drawing in rest if not _is_refuted(drawing, narrow)]
+                if not self._is_full(fewer, narrow):
+                    heappush(queue, (growth.keys_of(self._row, narrow), len(cases)))
+                    cases.append((narrow, fewer))
 
     def is_case(self, value):
         """Whether the value tells, with None for an empty tree, what can stand here so that no drawing fits."""
@@ -106,32 +134,9 @@ class Site:
         return value != "" and ("" if value is None else value) in self._choices_at(spot)
 
 
-def place_of(row):
-    """The place at which a drawing is done at a row or a start."""
-    if len(row) == 1:
-        return row
-    if len(row) == 4:
-        return row[:3]
-    if isinstance(row[1], str):
-        return row[:4]
-    return ("top", row[3]) if row[0] == "" else ("mend", *row[:4])
-
-
-def side_ranks(difference, rank):
-    """The ranks of the left and of the right side of a join whose place has this rank."""
-    return rank - min(difference, 0), rank + max(difference, 0)
-
-
-def _spots_beside(scheme, row):
-    """The spots of the subtrees that drawings can open at a row or a start, by their paths."""
-    kind, *place = place_of(row)
-    if kind == "join":
-        left, right = side_ranks(row[3], row[4])
-        return {(0,): (row[1], left), (1,): (row[2], right)}
-    if kind in ("put", "top"):
-        return {}
-    name, odd = place[:2]
-    return {(index,): (sort, row[-1] - step) for index, (sort, step) in enumerate(scheme[name]) if index != odd}
+def case_of(drawing):
+    """The case in which just the names stand that a drawing opens."""
+    return {path: name for path, name in drawing.opened_pairs}
 
 
 def _next_path(drawing, case):

@@ -2,13 +2,18 @@
 
 from mendbooks.books.sides import MAX_JOINED
 from mendbooks.decide.cases import Site
+from mendbooks.decide.rows import is_row, is_start_of_join, node_at, whole_row
 
 # Of which children the rows of a kind tell; joins go along last or first children only.
 _INDICES = {"put": None, "cut": None, "left": -1, "right": 0}
 
 
 class Course:
-    """The starts of a kind of deeds, and the rows to which drawings lead on."""
+    """The starts of a kind of deeds, and the rows to which drawings lead on.
+
+    An oddity is (sort, rank, apart, difference, hand): where a node of a sort and a rank was, an odd drawing has been
+    done. Only children with steps above `apart` can stand there; it is -1 if all can. Ranks need not be bases.
+    """
 
     def __init__(self, book, existence, kind):
         self._book = book
@@ -16,16 +21,34 @@ class Course:
         self._kind = kind
         self._index = _INDICES[kind]
         self._useful = existence.useful_from(self._index)
+        self._over = {}
+
+    @property
+    def book(self):
+        """The book."""
+        return self._book
+
+    @property
+    def kind(self):
+        """The kind of deeds."""
+        return self._kind
 
     def all_starts(self):
         """The starts, ascending."""
         if self._kind == "put":
             return (("put",),)
         if self._kind == "cut":
-            return tuple(sorted([("cut", *node) for node in self._nodes_above(self._book.scheme.bare, 0)]))
-        found = [start for rank in range(self._existence.many_bases) for difference in range(MAX_JOINED + 1)
-                 for start in self._joins_at(rank, difference)]
+            return tuple(sorted([("cut", *node) for node in self.nodes_over(self._book.scheme.bare, 0, -1)]))
+        found = [start for rank in range(self._existence.many_bases) for start in self.joins_at(rank)]
         return tuple(sorted(found))
+
+    def joins_at(self, rank):
+        """The starts of joins with places of this rank."""
+        return [start for apart in range(MAX_JOINED + 1) for start in self._joins_apart(rank, apart)]
+
+    def is_row(self, value):
+        """Whether the value is a row, of this kind or not."""
+        return is_row(self._book.scheme, self._existence, value)
 
     def site(self, row):
         """The site of a row or a start."""
@@ -35,10 +58,58 @@ class Course:
         """The ascending tuples of the rows to which the drawings lead on that can fit at a row or a start, by lines."""
         return {drawing.line: self._rows_behind(drawing, row) for drawing in self.site(row).fitting()}
 
-    def _nodes_above(self, sort, rank):
-        return self._existence.nodes_above(sort, rank, self._index, self._useful)
+    def rows_after(self, row):
+        """The list of all rows to which the drawings lead on that can fit at a row or a start."""
+        return [other for rows in self.leads(row).values() for other in rows]
 
-    def _joins_at(self, rank, apart):
+    def oddities_behind(self, row):
+        """The oddities to which the drawings lead that can fit at a row or a start."""
+        oddities = [self.oddity_behind(drawing, row) for drawing in self.site(row).fitting()]
+        return [turn for turn in turns if oddity is not None]
+
+    def oddity_behind(self, drawing, row):
+        """The oddity to which a drawing leads at a row or a start, None if it is not odd there."""
+        sort, rank, apart = self.spot_of(row)
+        level = 0
+        if drawing.kind == "join":
+            # The right side stands as much below the left one as the difference tells.
+            level = 0 if self._kind == "left" else row[3]
+        if drawing.kind == "top" or drawing.result == (sort, level):
+            return None
+        return (sort, rank, apart, drawing.result[1] - level, drawing.hand)
+
+    def spot_of(self, row):
+        """The sort, the rank and what is apart where a drawing is done at a row or a start."""
+        if row == ("put",) or row[0] == "":
+            return self._book.scheme.bare, 0, -1
+        if is_start_of_join(row):
+            return row[1] if self._kind == "left" else row[2], row[4], abs(row[3])
+        name, _, rank = node_at(row)
+        return self._book.scheme[name].sort_name, rank, -1
+
+    def rows_over(self, oddity):
+        """The ascending tuple of the rows above an oddity, with their ranks taken to their bases."""
+        if oddity not in self._over:
+            sort, rank, apart, difference, hand = oddity
+            rows = [(name, index, difference, hand, self._existence.base_of(above))
+                    for name, index, above in self.nodes_over(sort, rank, apart)]
+            if self.can_be_whole(sort, apart):
+                rows.append(whole_row(hand))
+            self._over[oddity] = tuple(sorted(rows))
+        return self._over[oddity]
+
+    def nodes_over(self, sort, rank, apart):
+        """The useful nodes, as (name, index, rank), directly above a child with this sort and rank."""
+        nodes = self._existence.nodes_above(sort, rank, self._index, self._useful)
+        return [node for node in nodes if node[2] - rank > apart]
+
+    def can_be_whole(self, sort, apart):
+        """Whether what has this sort can be the whole tree."""
+        if sort not in self._book.scheme.tops:
+            return False
+        return apart < 0 or (apart == 0 and self._kind == "left")
+
+    def _joins_apart(self, rank, apart):
         """The starts of joins with a place of this rank and the difference, told without its sign."""
         places = [sort for sort in self._existence.sorts_at(rank) if self._can_lie(sort, rank, apart)]
         others = [sort for sort in self._existence.sorts_at(rank + apart) if sort in self._book.scheme.tops]
@@ -48,44 +119,10 @@ class Course:
 
     def _can_lie(self, sort, rank, apart):
         """Whether the place of a join can have this sort."""
-        if self._can_be_whole(sort, apart):
-            return True
-        return any([above - rank > apart for _, _, above in self._nodes_above(sort, rank)])
-
-    def _can_be_whole(self, sort, apart):
-        """Whether the place of a join can be the whole tree."""
-        return self._kind == "left" and apart == 0 and sort in self._book.scheme.tops
+        return self.can_be_whole(sort, apart) or bool(self.nodes_over(sort, rank, apart))
 
     def _rows_behind(self, drawing, row):
-        scheme = self._book.scheme
-        if drawing.kind == "top":
-            return ()
-        if drawing.kind == "join":
-            return self._rows_behind_join(drawing, row)
-        if drawing.kind == "put":
-            rows = self._rows_above(drawing, scheme.bare, 0, -1) if drawing.is_odd else []
-            return tuple(sorted([_whole_row(drawing), *rows]))
-        if not drawing.is_odd:
-            return ()
-        sort = scheme[drawing.place[1]].sort_name
-        whole = [_whole_row(drawing)] if sort in scheme.tops else []
-        return tuple(sorted([*whole, *self._rows_above(drawing, sort, row[-1], -1)]))
-
-    def _rows_behind_join(self, drawing, row):
-        _, left, right, difference, rank = row
-        was = (left, 0) if self._kind == "left" else (right, difference)
-        if drawing.result == was:
-            return ()
-        apart = abs(difference)
-        whole = [_whole_row(drawing)] if self._can_be_whole(was[0], apart) else []
-        return tuple(sorted([*whole, *self._rows_above(drawing, was[0], rank, apart, was[1])]))
-
-    def _rows_above(self, drawing, sort, rank, apart, level=0):
-        """The rows to which an odd drawing leads on, under steps above a number, from what had a sort and a level."""
-        return [(name, index, drawing.result[1] - level, drawing.hand, self._existence.base_of(above))
-                for name, index, above in self._nodes_above(sort, rank) if above - rank > apart]
-
-
-def _whole_row(drawing):
-    """The row for a whole tree that a drawing leaves."""
-    return ("", 0, 0, drawing.hand, 0)
+        oddity = self.oddity_behind(drawing, row)
+        if oddity is not None:
+            return self.rows_over(oddity)
+        return (whole_row(drawing.hand),) if drawing.kind == "put" else ()

@@ -1,11 +1,10 @@
 """Tables: all that can happen while trees are mended, in finitely many rows."""
 
-from mendbooks.base.words import is_flat, is_index, is_integer
+from mendbooks.base.words import is_flat
 from mendbooks.books.books import Book
-from mendbooks.books.drawings import MAX_DIFFERENCE
-from mendbooks.books.sides import MAX_JOINED, side_of
-from mendbooks.decide.cases import Site, side_ranks
+from mendbooks.decide.cases import Site
 from mendbooks.decide.course import Course
+from mendbooks.decide.rows import is_row_or_start
 from mendbooks.errors import InvalidBook, InvalidOperation, TooMany
 from mendbooks.ranks.ranks import existence_of
 
@@ -30,6 +29,11 @@ class Table:
         self._rows = tuple(sorted(self._before))
         self._open_starts = tuple([start for start in self._starts if not self._course.site(start).is_covered()])
         self._open_rows = tuple([row for row in self._rows if not self._course.site(row).is_covered()])
+
+    @property
+    def course(self):
+        """Where deeds of the kind begin, and how they go on."""
+        return self._course
 
     @property
     def book(self):
@@ -129,47 +133,6 @@ def _site_of(book, row):
     if not isinstance(book, Book):
         raise InvalidBook("rows are those of a book")
     existence = existence_of(book.scheme)
-    if not is_flat(row) or not _is_row_or_start(book.scheme, existence, row):
+    if not is_row_or_start(book.scheme, existence, row):
         raise InvalidOperation("neither a row nor a start")
     return Site(book, existence, row)
-
-
-def _is_row_or_start(scheme, existence, value):
-    if len(value) == 4:
-        return _is_start_of_cut(scheme, existence, value)
-    if len(value) != 5:
-        return value == ("put",)
-    if isinstance(value[1], str):
-        return _is_start_of_join(existence, value)
-    return _is_row(scheme, existence, value)
-
-
-def _is_start_of_cut(scheme, existence, value):
-    kind, name, index, rank = value
-    if kind != "cut" or name not in scheme.names or not is_index(index, len(scheme[name])):
-        return False
-    return scheme[name][index] == (scheme.bare, rank) and name in existence.forms_at(rank)
-
-
-def _is_start_of_join(existence, value):
-    kind, sort, other, difference, rank = value
-    if kind != "join" or not is_integer(difference) or abs(difference) > MAX_JOINED or not _is_base(existence, rank):
-        return False
-    left, right = side_ranks(difference, rank)
-    return sort in existence.sorts_at(left) and other in existence.sorts_at(right)
-
-
-def _is_row(scheme, existence, value):
-    name, index, difference, hand, rank = value
-    side = side_of(scheme, hand)
-    if side is None or name == "":
-        return side is not None and (index, difference, rank) == (0, 0, 0)
-    if name not in scheme.names or not is_index(index, len(scheme[name])) or not _is_base(existence, rank):
-        return False
-    if not is_integer(difference) or abs(difference) > MAX_DIFFERENCE:
-        return False
-    return (difference != 0 or side[0] != scheme[name][index][0]) and name in existence.forms_at(rank)
-
-
-def _is_base(existence, rank):
-    return is_index(rank, existence.many_bases)

@@ -4,7 +4,8 @@ from mendbooks.base.words import is_index
 from mendbooks.books.books import Book
 from mendbooks.errors import InvalidBook, InvalidNumber, InvalidOperation, InvalidShape, NoMend
 from mendbooks.mend.mending import Mending
-from mendbooks.trees.shapes import Shape, is_over
+from mendbooks.trees.forest import Forest
+from mendbooks.trees.shapes import Shape, is_over, shape_of
 
 
 def is_deed(shape, value):
@@ -33,19 +34,19 @@ def cut(book, shape, gap):
 def steps(book, shape, deed):
     """The pairs of a path and a line of the drawings that a deed uses, in their order."""
     _check_deed(book, shape, deed)
-    return tuple([(path, drawing.line) for path, drawing in _mended(book, shape, deed).done])
+    return tuple([(path, drawing.line) for path, drawing in _mended(book, shape, deed)[0].done])
 
 
 def failing_place(book, shape, deed):
     """The place with which a deed fails, None if it does not."""
     _check_deed(book, shape, deed)
-    return _tried(book, shape, deed).failing
+    return _tried(book, shape, deed)[0].failing
 
 
 def fresh_nodes(book, shape, deed):
     """How many nodes of the new tree are made anew."""
     _check_deed(book, shape, deed)
-    return _mended(book, shape, deed).fresh
+    return _mended(book, shape, deed)[0].fresh
 
 
 def _check_shape(book, shape):
@@ -68,22 +69,24 @@ def _check_deed(book, shape, deed):
 
 
 def _tried(book, shape, deed):
-    """The mending of a deed, also of one that fails."""
+    """The mending of a deed, also of one that fails, and the forest in which it is done."""
     kind, gap = deed
-    mending = Mending(book, shape, shape.path_to(gap))
+    forest = Forest()
+    mending = Mending(book, forest, forest.top_of(shape.rows), shape.path_to(gap))
     if kind == "put":
         mending.put()
     else:
         mending.cut()
-    return mending
+    return mending, forest
 
 
 def _mended(book, shape, deed):
-    mending = _tried(book, shape, deed)
+    mending, forest = _tried(book, shape, deed)
     if mending.failing is not None:
         raise NoMend(mending.failing)
-    return mending
+    return mending, forest
 
 
 def _shape_behind(book, shape, deed):
-    return _mended(book, shape, deed).left_shape()
+    mending, forest = _mended(book, shape, deed)
+    return shape_of(book.scheme, forest, mending.left_top())

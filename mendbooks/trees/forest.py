@@ -4,7 +4,10 @@ from mendbooks.base.words import is_index
 
 
 class Forest:
-    """Rows to which more can be added. Rows are known by their numbers; None stands for an empty tree."""
+    """A wood of trees without keys, to which more can be added.
+
+    Its nodes are known by the numbers of their rows; None stands for an empty tree. The places of keys hold None.
+    """
 
     def __init__(self):
         self._told = []
@@ -25,37 +28,61 @@ class Forest:
             numbers.append(self.row_of(name, tuple([None if row is None else numbers[row] for row in children])))
         return numbers[-1] if numbers else None
 
+    def node_of(self, name, _, children):
+        """The number of the row with this name and these children; keys do not matter here."""
+        return self.row_of(name, children)
+
     def name_of(self, number):
         """The name of a node, None for an empty tree."""
         return None if number is None else self._told[number][0]
 
-    def followed(self, number, path):
-        """The number of what stands below a node at a path that is there."""
-        for index in path:
-            number = self._told[number][1][index]
-        return number
+    def limbs_of(self, number):
+        """The children of a node, none for an empty tree."""
+        return () if number is None else self._told[number][1]
 
-    def exchanged(self, number, index, child):
-        """The number of the node with another child at this index."""
-        name, children = self._told[number]
-        return self.row_of(name, (*children[:index], child, *children[index + 1:]))
+    def contents_of(self, number):
+        """The keys of a node."""
+        return (None,) * (len(self.limbs_of(number)) - 1)
+
+    def changed_key(self):
+        """The key that is put or cut."""
+        return None
 
     def plain_rows(self, top):
         """The plain rows of a tree."""
-        rows = []
-        places = {}
-        waiting = [] if top is None else [top]
-        while waiting:
-            number = waiting[-1]
-            name, children = self._told[number]
-            missing = [child for child in children if child is not None and child not in places]
-            if missing:
-                waiting.append(missing[0])
-                continue
-            waiting.pop()
-            places[number] = len(rows)
-            rows.append((name, tuple([places.get(child) for child in children])))
-        return tuple(rows)
+        return () if top is None else ordered_rows(self._told, top)
+
+
+def plain_rows_of(rows):
+    """The plain rows of a tree that has these rows."""
+    told = []
+    numbers = {}
+    places = []
+    for name, children in rows:
+        row = (name, tuple([None if child is None else places[child] for child in children]))
+        if row not in numbers:
+            numbers[row] = len(told)
+            told.append(row)
+        places.append(numbers[row])
+    return ordered_rows(told, places[-1]) if places else ()
+
+
+def ordered_rows(told, top):
+    """The rows of the tree of one of the rows, without all others, in the order in which they are complete."""
+    rows = []
+    places = {}
+    waiting = [top]
+    while waiting:
+        number = waiting[-1]
+        name, children = told[number]
+        missing = [child for child in children if child is not None and child not in places]
+        if missing:
+            waiting.append(missing[0])
+            continue
+        waiting.pop()
+        places[number] = len(rows)
+        rows.append((name, tuple([places.get(child) for child in children])))
+    return tuple(rows)
 
 
 def is_rows(scheme, value, most):

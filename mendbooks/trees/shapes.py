@@ -3,7 +3,7 @@
 from mendbooks.base.forms import Scheme, mirrored_scheme
 from mendbooks.base.words import is_index
 from mendbooks.errors import InvalidNumber, InvalidScheme, InvalidShape, TooMany, UnknownPath
-from mendbooks.trees.forest import Forest, is_rows
+from mendbooks.trees.forest import Forest, is_rows, plain_rows_of
 
 MAX_ROWS = 4000
 
@@ -16,9 +16,8 @@ class Shape:
             raise InvalidScheme("a shape is a tree over a scheme")
         if not is_rows(scheme, rows, MAX_ROWS):
             raise InvalidShape("no rows of a tree over this scheme")
-        forest = Forest()
         self._scheme = scheme
-        self._rows = forest.plain_rows(forest.top_of(rows))
+        self._rows = plain_rows_of(rows)
         self._gaps = _gaps_of(self._rows)
         self._heights = _heights_of(self._rows)
         self._spots = _spots_of(scheme, self._rows)
@@ -88,6 +87,35 @@ class Shape:
             row = children[index]
         return tuple(path)
 
+    def gap_at(self, path):
+        """The number of the gap to which a path leads that is there."""
+        gap = 0
+        row = len(self._rows) - 1
+        for index in path:
+            children = self._rows[row][1]
+            gap = gap + sum([self._gaps_below(child) for child in children[:index]])
+            row = children[index]
+        return gap
+
+    def key_at(self, number):
+        """The path of the node with the key that has this number, and the number of the key in it."""
+        if not is_index(number, self.size):
+            raise InvalidNumber(number)
+        path = []
+        row = len(self._rows) - 1
+        while True:
+            index = 0
+            for child in self._rows[row][1]:
+                if number < self._gaps_below(child):
+                    break
+                number = number - self._gaps_below(child)
+                index = index + 1
+            child = self._rows[row][1][index]
+            if number + 1 == self._gaps_below(child):
+                return tuple(path), index
+            path.append(index)
+            row = child
+
     def below(self, path):
         """The subtree at a path."""
         row = self._way_to(path)[-1]
@@ -109,7 +137,8 @@ class Shape:
         forest.top_of(self._rows)
         top = forest.top_of(other.rows)
         for depth in reversed(range(len(path))):
-            top = forest.exchanged(way[depth], path[depth], top)
+            name, children = self._rows[way[depth]]
+            top = forest.row_of(name, (*children[:path[depth]], top, *children[path[depth] + 1:]))
         return shape_of(self._scheme, forest, top)
 
     def mirrored(self):
