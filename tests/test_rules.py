@@ -154,7 +154,8 @@ class Names(unittest.TestCase):
         self.assertGreater(found, 0)
 
     def test_underscores(self):
-        allowed = {"__init__", "__eq__", "__str__", "__len__", "__iter__", "__getitem__", "__contains__", "__bool__"}
+        allowed = {"__init__", "__eq__", "__str__", "__len__", "__iter__", "__getitem__", "__contains__", "__bool__",
+                   "__call__", "__enter__", "__exit__"}
         for path, tree in trees():
             for node in ast.walk(tree):
                 name = getattr(node, "id", getattr(node, "attr", getattr(node, "name", None)))
@@ -167,10 +168,29 @@ class Names(unittest.TestCase):
 class Statements(unittest.TestCase):
 
     def test_statements_and_expressions(self):
-        barred = (ast.AsyncFunctionDef, ast.Global, ast.Nonlocal, ast.With, ast.Match, ast.Await, ast.Set, ast.Assert)
+        barred = (ast.AsyncFunctionDef, ast.Global, ast.Nonlocal, ast.Match, ast.Await, ast.Set, ast.Assert)
         for path, tree in trees():
             for node in ast.walk(tree):
                 self.assertNotIsInstance(node, barred, (path, getattr(node, "lineno", 0)))
+
+    def test_with(self):
+        for path, tree in trees():
+            for node in ast.walk(tree):
+                if isinstance(node, ast.With):
+                    for part in node.items:
+                        self.assertIsInstance(part.context_expr, ast.Call, path)
+                        self.assertIsInstance(part.optional_vars, ast.Name, path)
+
+    def test_what_stands_in_an_exit(self):
+        found = [node for owner in classes() for node in methods(owner) if node.name == "__exit__"]
+        self.assertGreater(len(found), 0)
+        for node in found:
+            self.assertEqual([word.arg for word in node.args.args], ["self", "kind", "value", "trace"])
+            for line in node.body:
+                self.assertIsInstance(line, ast.Assign)
+                self.assertIsInstance(line.value, ast.Attribute)
+            told = {word.id for line in node.body for word in ast.walk(line) if isinstance(word, ast.Name)}
+            self.assertEqual(told & {"kind", "value", "trace"}, set())
 
     def test_no_generator_expressions(self):
         for path, tree in trees():
@@ -199,10 +219,16 @@ class Statements(unittest.TestCase):
                             self.assertIsInstance(side, ast.Constant, (path, node.lineno))
 
     def test_errors_that_are_caught_are_own_ones(self):
+        own = {node.name for path, tree in trees() if path.name == "errors.py" for node in tree.body
+               if isinstance(node, ast.ClassDef)}
         for path, tree in trees():
             for node in ast.walk(tree):
                 if isinstance(node, ast.ExceptHandler):
-                    self.assertRegex(node.type.id, r"^(Invalid\w+|ParseError|KeyError)$", path)
+                    self.assertIn(node.type.id, own | {"KeyError"}, (path, node.lineno))
+                    used = {word.attr for part in node.body for word in ast.walk(part)
+                            if isinstance(word, ast.Attribute) and isinstance(word.value, ast.Name)
+                            and word.value.id == node.name}
+                    self.assertEqual(used - {"number", "limit", "pledge", "where"}, set(), (path, node.lineno))
 
     def test_errors_are_made_where_they_are_raised(self):
         for path, tree in trees():
@@ -267,7 +293,8 @@ class Statements(unittest.TestCase):
         for path, tree in trees():
             for function in functions(tree):
                 for value in [*function.args.defaults, *function.args.kw_defaults]:
-                    self.assertIsInstance(value, ast.Constant, (path, function.name))
+                    if not (isinstance(value, ast.Tuple) and value.elts == []):
+                        self.assertIsInstance(value, ast.Constant, (path, function.name))
 
     def test_no_two_files_import_from_each_other(self):
         needs = {}

@@ -2,8 +2,7 @@
 
 from mendbooks.mend.deeds import failing_place, is_deed
 from mendbooks.mend.joins import failing_join
-from mendbooks.trees.forest import is_rows
-from mendbooks.trees.shapes import MAX_ROWS, Shape
+from mendbooks.trees.shapes import right_shape_of
 
 
 def is_good_rows(course, value):
@@ -24,21 +23,13 @@ def is_bad_paper(book, kind, value):
     if len(value) != 3 or value[0] != "bad":
         return False
     _, rows, other = value
-    shape = _right_shape(book, rows)
+    shape = right_shape_of(book.scheme, rows)
     if shape is None:
         return False
     if kind in ("put", "cut"):
         return is_deed(shape, other) and other[0] == kind and failing_place(book, shape, other) is not None
-    twin = _right_shape(book, other)
+    twin = right_shape_of(book.scheme, other)
     if twin is None:
         return False
     told, failing = failing_join(book, shape, twin)
     return told == kind and failing is not None
-
-
-def _right_shape(book, value):
-    """The right shape with these rows, None if there is none."""
-    if not is_rows(book.scheme, value, MAX_ROWS):
-        return None
-    shape = Shape(book.scheme, value)
-    return shape if shape.is_right else None

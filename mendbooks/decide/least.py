@@ -39,7 +39,7 @@ def is_good(book, kind):
 
 
 def least_bad(book, kind):
-    """A right shape and a deed that fails in it, or two right shapes, with as few keys as possible; None without one."""
+    """A right shape and a deed that fails in it, or two right shapes, with as few keys as possible; or None."""
     table = Table(book, kind)
     return None if table.is_good else failing_pair(table)
 

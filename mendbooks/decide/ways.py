@@ -11,7 +11,11 @@ def is_way(table, value):
         return False
     if value[0] not in table.starts:
         return False
-    return all([row in table.course.rows_after(before) for before, row in zip(value, value[1:])])
+    for before, row in zip(value, value[1:]):
+        # Nothing leads on from what is no row, so all others have to be looked at first.
+        if row not in table.course.rows_after(before):
+            return False
+    return True
 
 
 def realized(course, way):

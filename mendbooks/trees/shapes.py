@@ -32,7 +32,8 @@ class Shape:
             raise InvalidShape("a node has as many shapes as its form tells")
         forest = Forest()
         children = [forest.top_of(part.rows) for part in parts]
-        return cls(scheme, _counted_rows(forest, forest.row_of(name, tuple(children))))
+        top = forest.row_of(name, tuple(children))
+        return shape_with(scheme, forest.plain_rows(top))
 
     @property
     def scheme(self):
@@ -175,19 +176,27 @@ class Shape:
 
 def shape_of(scheme, forest, top):
     """The shape of a tree in a forest."""
-    return Shape(scheme, _counted_rows(forest, top))
+    return shape_with(scheme, forest.plain_rows(top))
+
+
+def shape_with(scheme, rows):
+    """The shape with the plain rows of a tree over the scheme."""
+    if len(rows) > MAX_ROWS:
+        raise TooMany(MAX_ROWS)
+    return Shape(scheme, rows)
+
+
+def right_shape_of(scheme, value):
+    """The right shape with these rows, plain or not; None if there is none."""
+    if not is_rows(scheme, value, MAX_ROWS):
+        return None
+    shape = Shape(scheme, value)
+    return shape if shape.is_right else None
 
 
 def is_over(scheme, value):
     """Whether the value is a shape over the scheme."""
     return isinstance(value, Shape) and value.scheme == scheme
-
-
-def _counted_rows(forest, top):
-    rows = forest.plain_rows(top)
-    if len(rows) > MAX_ROWS:
-        raise TooMany(MAX_ROWS)
-    return rows
 
 
 def _gaps_of(rows):

@@ -1,0 +1,1 @@
+"""Texts of books, shapes and papers, and a shell of commands."""

@@ -1,0 +1,1 @@
+"""Indexes, and books that are worked on."""
