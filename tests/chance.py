@@ -147,6 +147,31 @@ def book_of(number, scheme=None, tries=150):
     return Book(scheme, tuple(drawings))
 
 
+def joining_book(number):
+    """A book with a join for each difference, and with mends by chance of what the joins leave."""
+    chance = random.Random(number)
+    steps = ("t1 t1", "t1 t2", "t1 t3", "t2 t1", "t3 t1")
+    scheme = Scheme.from_lines("bare t", "tops t", *(f"form {name} t {told}" for name, told in zip(NAMES, steps)))
+    book = Book(scheme, (Drawing(scheme, "put ^one"),))
+    for difference in range(-2, 3):
+        lines = lines_behind(chance, scheme, f"join t t {difference:+d}", (("t", 0), ("t", difference)))
+        book = book.with_drawing(chance.choice(lines))
+    for _ in range(300):
+        made = chance.choice(book.drawings)
+        form, odd = chance.choice(scheme.forms), chance.randrange(2)
+        # What a join leaves in the right tree is compared with the right side.
+        level = made.place[3] if made.kind == "join" and odd == 0 else 0
+        difference = made.result[1] - level
+        parts = [".", "."]
+        parts[odd] = f"!{difference:+d}:{made.hand}"
+        spots = [("t", -step) for _, step in form.children]
+        spots[odd:odd + 1] = spots_at(scheme, (made.hand, "t"), difference - form.children[odd][1])
+        lines = lines_behind(chance, scheme, f"mend {form.called}({' '.join(parts)})", tuple(spots))
+        if lines and not book.at(Drawing(scheme, lines[0]).place):
+            book = book.with_drawing(chance.choice(lines))
+    return book
+
+
 def depth(text):
     try:
         return Picture(text).levels
