@@ -1,6 +1,6 @@
 """Points 13.1 and 13.2 done in the plainest way, with the trees and plans of `naive`."""
 
-from tests.naive import Fails, Plan, at, collect, exchanged, fitting, grown, keys_of, spot_of
+from tests.naive import Plan, at, collect, done, exchanged, fitting, grown, keys_of, spot_of
 
 
 def joined(book, left, right):
@@ -78,4 +78,40 @@ def gathered(book, children):
     return whole
 
 
-__all__ = ["Fails", "gathered", "join_kind", "joined", "raised", "split"]
+
+def split_at_gap(book, tree, gap):
+    """The two parts of a right tree at a gap, without a key there; raises Fails."""
+    if tree is None:
+        return None, None
+    index = 0
+    while gap > keys_of(tree[1 + index]):
+        gap -= keys_of(tree[1 + index]) + 1
+        index += 1
+    left, right = split_at_gap(book, tree[1 + index], gap)
+    if index > 0:
+        left = joined(book, gathered(book, tree[1:1 + index]), left)[0]
+    if index + 2 < len(tree):
+        right = joined(book, right, gathered(book, tree[index + 2:]))[0]
+    return left, right
+
+
+def merged(book, one, other, is_union):
+    """Point 16.2 for two pairs of a tree and its keys; raises Fails."""
+    (tree, keys), (twin, others) = one, other
+    if tree is None:
+        return other if is_union else (None, ())
+    if twin is None:
+        return one
+    number = keys_of(tree[1])
+    key = keys[number]
+    left, right = split(book, tree, number)
+    below, above = [k for k in others if k < key], [k for k in others if k > key]
+    parts = split(book, twin, len(below)) if key in others else split_at_gap(book, twin, len(below))
+    left, low = merged(book, (left, keys[:number]), (parts[0], tuple(below)), is_union)
+    right, high = merged(book, (right, keys[number + 1:]), (parts[1], tuple(above)), is_union)
+    if is_union or key not in others:
+        return joined(book, left, right)[0], (*low, key, *high)
+    if left is None:
+        return right, high
+    left, _ = done(book, left, ("cut", len(low)))
+    return joined(book, left, right)[0], (*low, *high)

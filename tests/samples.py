@@ -7,7 +7,10 @@ from mendbooks.books.books import Book
 from mendbooks.books.drawings import Drawing
 from mendbooks.decide.tables import Table
 from mendbooks.ranks.ranks import Ranks
+from mendbooks.text.shell import Shell
 from mendbooks.trees.shapes import Shape
+from mendbooks.use.bench import Bench
+from mendbooks.use.index import Index
 
 LONGEST = 10 ** 60 - 1
 TOO_LONG = 10 ** 60
@@ -57,6 +60,8 @@ def odd_sequences():
         ("mend", "two", 0, -1, "t"), ("two", 0, -1, "t", 2), ("two", False, -1, "t", 2), ("", 0, 0, "t", 0),
         ("join", "t", "t", 0, 0), ("top", "t"), (("two", (None, None)),), (("two", [None, None]),),
         (["two", (None, None)],), (("two", (None, 0)),), (("three", (None, None, None)),), (("two", (None, None), 0),),
+        ("good", ()), ("good", "put"), ("most", "put", 3), ("most", "put", True), ("done", (), ("put", 0)),
+        ("bad", (), ("put", 0)), ("bad", (), ()), ("good", (), ()), ("good", (("", 0, 0, "t", 0),)),
         nested(8, "t", lambda value: (value,)), nested(8, 0, lambda value: [value]),
         nested(8, (), lambda value: (value, value)),
     ]
@@ -68,7 +73,7 @@ def odd_objects():
     shape = Shape(TWOTHREE, (("two", (None, None)),))
     return [
         drawing, (drawing,), [drawing], book, (book,), shape, (shape,), [shape, shape], Ranks(TWOTHREE),
-        Table(book, "put"),
+        Table(book, "put"), Index(book, (3,)), Bench(book), (Bench(book),), Shell("\n".join(book.lines)),
         Form("two", "t", (("t", 1), ("t", 1))), (Form("even", "t", (("t", 1), ("t", 1))),), HEIGHTS, (HEIGHTS,),
         Picture("."), Picture("two(. .)"), (Picture("."),), (Picture("."), Picture(".")), [Picture("."), Picture(".")],
         errors.ParseError(3), errors.UnknownName("t"), errors.InvalidName("t"),

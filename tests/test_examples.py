@@ -7,13 +7,27 @@ from mendbooks.base.pictures import Picture, are_apart, spot_over, spots_of
 from mendbooks.base.words import is_count, is_integer, is_name, is_names
 from mendbooks.books.books import choice, mirrored_book
 from mendbooks.books.drawings import Drawing, clash
+from mendbooks.decide.joins import is_join_paper, join_paper, unraised
+from mendbooks.decide.least import is_good, is_paper, least_bad, paper
 from mendbooks.decide.tables import Table, beside, is_beside
+from mendbooks.decide.uses import lacking, least_use, long_deed, most_drawings, spared, used
+from mendbooks.errors import Refused
 from mendbooks.mend.deeds import cut, failing_place, fresh_nodes, put, steps
+from mendbooks.mend.joins import join_shapes, join_steps, split_shape
 from mendbooks.ranks.counts import count_right, count_sound, each_right, number_of, right_at
 from mendbooks.ranks.heights import greatest_height, least_height, least_keys, most_keys, tall_tree
 from mendbooks.ranks.ranks import Ranks
+from mendbooks.text.shell import Shell
+from mendbooks.text.texts import read_paper, read_rows, write_book, write_paper, write_rows
 from mendbooks.trees.shapes import Shape
+from mendbooks.use.bench import Bench
+from mendbooks.use.index import Index
 from tests.books import HEIGHTS, TWOTHREE
+
+LESS = TWOTHREE.without("mend three(. . !+1:two(. .)) to ^two(two(. .) two(. .))")
+GLUE = TWOTHREE.with_drawing("join t t +0 to ^two(. .)")
+THREE = Shape(TWOTHREE.scheme, (("three", (None, None, None)),))
+FULL = Shape(TWOTHREE.scheme, (("two", (None, None)), ("two", (0, 0))))
 
 
 class Examples(unittest.TestCase):
@@ -130,3 +144,62 @@ class Examples(unittest.TestCase):
         glue = TWOTHREE.with_drawing("join t t +0 to ^two(. .)")
         self.assertEqual([Table(glue, "left").starts[0], len(Table(glue, "left")), Table(glue, "right").is_good],
                          [("join", "t", "t", 0, 0), 25, True])
+
+    def test_papers(self):
+        self.assertEqual([paper(TWOTHREE, "cut")[0], least_bad(TWOTHREE, "put"), least_bad(LESS, "put")[0].rows,
+                          paper(LESS, "put")[2]], ["good", None, (("three", (None, None, None)),), ("put", 2)])
+        self.assertEqual([is_paper(TWOTHREE, "put", ("good", Table(TWOTHREE, "put").rows)),
+                          is_paper(TWOTHREE, "put", ("good", ())), is_good(LESS, "cut")], [True, False, True])
+
+    def test_joins_and_splits(self):
+        self.assertEqual([join_shapes(GLUE, THREE, FULL).rows, join_steps(GLUE, FULL, Shape(GLUE.scheme, ()))], [
+            (("three", (None, None, None)), ("two", (None, None)), ("three", (0, 1, 1))),
+            (((1, 1), "join t t +0 to ^two(. .)"), ((1,), "mend two(. !+1:two(. .)) to three(. . .)"))])
+        self.assertEqual([[part.size for part in split_shape(GLUE, FULL, 1)],
+                          [part.rows for part in split_shape(GLUE, FULL, 0)]],
+                         [[1, 1], [(), (("three", (None, None, None)),)]])
+
+    def test_joins_of_all_trees(self):
+        self.assertEqual([Table(GLUE, "left").starts[0], len(Table(GLUE, "left")), is_good(GLUE, "right"),
+                          unraised(GLUE)], [("join", "t", "t", 0, 0), 25, True, ()])
+        told = ("good", Table(GLUE, "left").rows, Table(GLUE, "right").rows)
+        self.assertEqual([join_paper(TWOTHREE), is_join_paper(GLUE, told)], [("bad", (), ()), True])
+
+    def test_uses(self):
+        self.assertEqual([most_drawings(TWOTHREE, "put"), len(used(TWOTHREE, "put")), len(used(TWOTHREE, "cut")),
+                          lacking(LESS, "put")], [None, 6, 15, (("mend", "three", 2, 1, "two(. .)"),)])
+        shape, deed = least_use(TWOTHREE, "cut", "cut three(. x .) to two(. .)")
+        self.assertEqual([shape.rows, deed, spared(GLUE) == GLUE,
+                          len(steps(TWOTHREE, *long_deed(TWOTHREE, "put", 5))) > 4],
+                         [(("three", (None, None, None)),), ("cut", 1), True, True])
+
+    def test_indexes(self):
+        index = Index(GLUE, (5, 1, 3))
+        self.assertEqual([index.content, str(index), index.less(4), index.under(3), list(index.between(2, None)),
+                          index.shared(index.elder()), index.elder(many=3).content],
+                         [(1, 3, 5), "index of 3 keys, height 2", 2, 1, [3, 5], 0, ()])
+        self.assertEqual([index.with_key(9).shared(index), index.without_key(3).shape.rows,
+                          index.united(Index(GLUE, (2, 3))).content, index.lessened(index).shape.rows],
+                         [1, (("three", (None, None, None)),), (1, 2, 3, 5), ()])
+
+    def test_a_bench(self):
+        bench, line = Bench(TWOTHREE), "cut three(. x .) to two(. .)"
+        self.assertEqual([bench.demand(("good", "put")), bench.erase(line), bench.undo(), bench.redo(), str(bench)],
+                         [(), (("cut", False),), (("cut", True),), (("cut", False),),
+                          "bench with 20 drawings, 1 pledges"])
+        self.assertRaises(Refused, bench.erase, "mend two(. !+1:two(. .)) to three(. . .)")
+        self.assertEqual([bench.during(lambda same: same.draw(line)), line in bench, ("good", "put") in bench],
+                         [(("cut", True),), False, True])
+
+    def test_texts_and_a_shell(self):
+        self.assertEqual([write_rows(FULL.rows), read_rows("-"), write_paper(paper(LESS, "put")),
+                          read_paper("good\ntop two(. .)\ntwo 0 +1 two(. .) 1")],
+                         ["two . .\ntwo 0 0", (), "bad put 2\nthree . . .",
+                          ("good", (("", 0, 0, "two(. .)", 0), ("two", 0, 1, "two(. .)", 1)))])
+        shell = Shell(write_book(LESS))
+        self.assertEqual([shell("good put"), shell("lack put"), shell("rows cut"), shell("do put 2 in three . . ."),
+                          shell("demand good put"), shell("height 1000000")],
+                         ["no", "mend three 2 +1 two(. .)", "56 rows, 0 open", "fails mend three 2 +1 two(. .)",
+                          "refused good put", "19"])
+        self.assertEqual([shell("draw mend three(. . !+1:two(. .)) to ^two(two(. .) two(. .))"),
+                          shell("demand good put"), shell("fly"), len(shell)], ["put good", "nothing", "what", 6])

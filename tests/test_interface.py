@@ -34,6 +34,23 @@ FUNCTIONS = {
         "fresh_nodes": ["book", "shape", "deed"],
     },
     "decide.tables": {"beside": ["book", "row"], "is_beside": ["book", "row", "value"]},
+    "decide.least": {
+        "paper": ["book", "kind"], "is_paper": ["book", "kind", "value"], "is_good": ["book", "kind"],
+        "least_bad": ["book", "kind"], "realize": ["book", "kind", "way"],
+    },
+    "mend.joins": {
+        "join_shapes": ["book", "one", "other"], "raise_shape": ["book", "shape"],
+        "join_steps": ["book", "one", "other"], "split_shape": ["book", "shape", "number"],
+    },
+    "decide.joins": {"join_paper": ["book"], "is_join_paper": ["book", "value"], "unraised": ["book"]},
+    "decide.uses": {
+        "most_drawings": ["book", "kind"], "long_deed": ["book", "kind", "many"], "used": ["book", "kind"],
+        "least_use": ["book", "kind", "line"], "spared": ["book"], "lacking": ["book", "kind"],
+    },
+    "text.texts": {
+        "write_book": ["book"], "read_book": ["text"], "write_rows": ["rows"], "read_rows": ["text"],
+        "write_paper": ["paper"], "read_paper": ["text"],
+    },
 }
 CONSTANTS = {
     "base.words": {"MAX_LETTERS": 8, "MAX_DIGITS": 60},
@@ -46,6 +63,7 @@ CONSTANTS = {
     "ranks.counts": {"MAX_COUNTED": 40},
     "ranks.heights": {"MAX_HEIGHT": 100},
     "decide.tables": {"DEEDS": ("put", "cut", "left", "right"), "MAX_TABLE": 20000},
+    "use.bench": {"MAX_PLEDGES": 10},
 }
 CLASSES = {
     "base.forms": {
@@ -106,6 +124,26 @@ CLASSES = {
             "__contains__": ["value"], "__len__": [], "__iter__": [], "__eq__": ["value"], "__str__": [],
         },
     },
+    "use.index": {
+        "Index": {
+            "__init__": ["book", "content"], "from_shape": classmethod, "book": property, "shape": property,
+            "content": property, "__contains__": ["value"], "__len__": [], "__iter__": [], "__getitem__": ["number"],
+            "less": ["key"], "under": ["key"], "over": ["key"], "between": ["low", "high"], "with_key": ["key"],
+            "without_key": ["key"], "united": ["other"], "lessened": ["other"], "shared": ["other"], "elder": ["many"],
+            "__eq__": ["value"], "__str__": [],
+        },
+    },
+    "use.bench": {
+        "Bench": {
+            "__init__": ["book"], "draw": ["line"], "erase": ["line"], "demand": ["pledge"], "waive": ["pledge"],
+            "undo": ["many"], "redo": ["many"], "trial": [], "during": ["call"], "twin": [], "book": property,
+            "pledges": property, "__contains__": ["value"], "__len__": [], "__iter__": [], "__eq__": ["value"],
+            "__str__": [],
+        },
+    },
+    "text.shell": {
+        "Shell": {"__init__": ["text"], "__call__": ["line"], "run": ["line"], "bench": [], "__len__": []},
+    },
 }
 ERRORS = ("MendError", "InvalidName", "InvalidForm", "InvalidScheme", "InvalidPicture", "InvalidDrawing",
           "InvalidBook", "InvalidShape", "InvalidPaper", "InvalidOperation", "ParseError", "UnknownName", "AbsentKey",
@@ -161,7 +199,17 @@ class Interface(unittest.TestCase):
             if not word.startswith("__") or word == "__init__":
                 self.assertEqual(parameters(found), told, word)
 
+    def test_keywords(self):
+        index, bench = module("use.index").Index, module("use.bench").Bench
+        for method in (index.elder, bench.undo, bench.redo):
+            found = inspect.signature(method).parameters["many"]
+            self.assertEqual((found.kind, found.default), (inspect.Parameter.KEYWORD_ONLY, 1))
+        found = inspect.signature(index).parameters["content"]
+        self.assertEqual((found.kind, found.default), (inspect.Parameter.POSITIONAL_OR_KEYWORD, ()))
+        self.assertTrue(inspect.isgeneratorfunction(index.between))
+
     def test_class_methods(self):
+        self.assertEqual(parameters(module("use.index").Index.from_shape), ["book", "shape", "content"])
         forms, pictures = module("base.forms"), module("base.pictures")
         self.assertEqual(parameters(module("trees.shapes").Shape.node), ["scheme", "name", "parts"])
         kind = inspect.signature(module("books.books").Book.from_lines).parameters["lines"].kind

@@ -80,7 +80,7 @@ class Names(unittest.TestCase):
                     self.assertIsInstance(node.ctx, ast.Load, (path, node.id, node.lineno))
                     self.assertIn(node.id, ALLOWED_BUILTINS | bound, (path, node.lineno))
                 if isinstance(node, ast.arg):
-                    self.assertFalse(hasattr(builtins, node.arg), (path, node.arg))
+                    self.assertFalse(node.arg != "_" and hasattr(builtins, node.arg), (path, node.arg))
 
     def test_methods_of_builtin_values(self):
         builtin = {name for kind in (str, list, dict, set, tuple, int, bytes) for name in dir(kind)}
