@@ -14,7 +14,6 @@ from mendbooks.text.marks import number_in, place_line
 from mendbooks.text.texts import read_rows, write_paper, write_rows
 from mendbooks.trees.shapes import Shape
 
-_BETWEEN = "; "
 _PLAIN_DEEDS = ("put", "cut")
 
 
@@ -36,7 +35,7 @@ def _pledge_in(text):
 
 def _told(lines):
     """Several lines as one answer."""
-    return _BETWEEN.join(lines) if lines else "nothing"
+    return "; ".join(lines) if lines else "nothing"
 
 
 def _news_told(news):
@@ -142,7 +141,7 @@ def _do(bench, text):
 def _rows_in(text):
     """The rows of a shape that a text tells; None for other texts."""
     try:
-        return read_rows("\n".join(text.split(_BETWEEN)))
+        return read_rows(text.replace("; ", "\n"))
     except ParseError:
         return None
 

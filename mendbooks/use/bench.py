@@ -4,7 +4,7 @@ from mendbooks.base.words import is_count
 from mendbooks.books.books import Book
 from mendbooks.decide.least import is_good
 from mendbooks.errors import InvalidBook, InvalidNumber, InvalidOperation, NothingToUndo, Refused, TooMany
-from mendbooks.use.pledges import holds, is_pledge
+from mendbooks.use.pledges import holds, is_among, is_pledge
 
 MAX_PLEDGES = 10
 
@@ -89,7 +89,7 @@ class Bench:
         """Takes out a pledge; returns the news."""
         book = self._standing.worked
         pledges = self._standing.pledged
-        if not is_pledge(book.scheme, pledge) or pledge not in pledges:
+        if not is_among(pledges, pledge):
             raise InvalidOperation("no pledge that is there")
         return self._change(Standing(book, tuple([other for other in pledges if other != pledge]),
                                      self._standing.goods))
@@ -130,7 +130,7 @@ class Bench:
     def __contains__(self, value):
         if isinstance(value, str):
             return value in self._standing.written
-        return is_pledge(self._standing.worked.scheme, value) and value in self._standing.pledged
+        return is_among(self._standing.pledged, value)
 
     def __iter__(self):
         return iter(self._standing.written)

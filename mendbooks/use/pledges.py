@@ -20,6 +20,11 @@ def is_pledge(scheme, value):
     return value[0] == "done" and shape is not None and is_deed(shape, value[2])
 
 
+def is_among(pledges, value):
+    """Whether the value is one of these pledges; True and False are no numbers in it."""
+    return value in pledges and not _has_boolean(value)
+
+
 def holds(book, pledge):
     """Whether a pledge for the scheme of a book holds."""
     word, told, *rest = pledge
@@ -29,3 +34,10 @@ def holds(book, pledge):
         return is_good(book, told)
     most = most_drawings(book, told)
     return most is not None and most <= rest[0]
+
+
+def _has_boolean(value):
+    """Whether True or False stands anywhere in a value that equals a pledge."""
+    if isinstance(value, tuple):
+        return any([_has_boolean(part) for part in value])
+    return isinstance(value, bool)
