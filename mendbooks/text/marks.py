@@ -1,21 +1,19 @@
 """The words of texts: numbers, deeds, places, pledges and rows of tables."""
 
 from mendbooks.base.pictures import split_blanks
-from mendbooks.base.words import is_count, is_name
+from mendbooks.base.words import MAX_DIGITS, is_count, is_name
 from mendbooks.books.drawings import MAX_DIFFERENCE
 from mendbooks.books.lines import difference_of
 from mendbooks.books.sides import picture_of
 from mendbooks.decide.rows import whole_row
 
-# Longer words are not read as numbers, as some versions of Python cannot read them.
-_MAX_SIGNS = 4000
-
 
 def number_in(word):
     """The integer of at least 0 that a word tells; None for other words."""
-    if len(word) > _MAX_SIGNS or not word.isascii() or not word.isdigit():
+    if not word.isascii() or not word.isdigit() or (word.startswith("0") and word != "0"):
         return None
-    return None if word.startswith("0") and word != "0" else int(word)
+    # What is too long to be valid need not be read to its end: it stays too long.
+    return int(word[:MAX_DIGITS + 1])
 
 
 def count_in(word):

@@ -48,6 +48,14 @@ def path_above(top, key):
     return tuple(path)
 
 
+def last_key(top):
+    """The greatest key of a tree that has keys."""
+    knot = top
+    while knot.limbs[-1] is not None:
+        knot = knot.limbs[-1]
+    return knot.contents[-1]
+
+
 def keys_of(top):
     """The keys of a tree, ascending."""
     keys = []

@@ -2,7 +2,7 @@
 
 from mendbooks.mend.seams import Seams
 from mendbooks.use.changing import cut_from
-from mendbooks.use.grove import Grove, keys_of, path_above, planted, rows_of
+from mendbooks.use.grove import Grove, keys_of, last_key, path_above, planted, rows_of
 
 
 def merged(book, one, other, is_union):
@@ -45,5 +45,5 @@ def _closed(book, seams, left, right, key, belongs):
         return seams.joined(left, right, key)
     if left is None:
         return right
-    last = keys_of(left)[-1]
+    last = last_key(left)
     return seams.joined(cut_from(book, left, last), right, last)
