@@ -192,6 +192,33 @@ class Statements(unittest.TestCase):
             told = {word.id for line in node.body for word in ast.walk(line) if isinstance(word, ast.Name)}
             self.assertEqual(told & {"kind", "value", "trace"}, set())
 
+    def test_lengths(self):
+        for owner in classes():
+            for node in methods(owner):
+                if node.name == "__len__":
+                    self.assertEqual([called(line.value) for line in node.body if isinstance(line, ast.Return)], ["len"])
+
+    def test_parameters_behind_a_star(self):
+        for path, tree in trees():
+            for node in functions(tree):
+                if node.args.kwonlyargs:
+                    self.assertFalse(node.name.startswith("__") and node.name != "__init__", path)
+                    self.assertNotIn(node.name, ALLOWED_METHODS, path)
+
+    def test_heaps_are_lists_that_have_a_name(self):
+        for path, tree in trees():
+            for node in ast.walk(tree):
+                if called(node) in ("heappush", "heappop"):
+                    self.assertIsInstance(node.args[0], (ast.Name, ast.Attribute), path)
+                    self.assertEqual(node.keywords, [])
+
+    def test_tables_of_functions(self):
+        # What is taken from such a table is called by a name of its own.
+        for path, tree in trees():
+            for node in ast.walk(tree):
+                if isinstance(node, ast.Call):
+                    self.assertNotIsInstance(node.func, (ast.Subscript, ast.Call), (path, node.lineno))
+
     def test_no_generator_expressions(self):
         for path, tree in trees():
             for node in ast.walk(tree):

@@ -33,7 +33,7 @@ class Shape:
         forest = Forest()
         children = [forest.top_of(part.rows) for part in parts]
         top = forest.row_of(name, tuple(children))
-        return shape_with(scheme, forest.plain_rows(top))
+        return cls(scheme, _counted(forest.plain_rows(top)))
 
     @property
     def scheme(self):
@@ -181,9 +181,7 @@ def shape_of(scheme, forest, top):
 
 def shape_with(scheme, rows):
     """The shape with the plain rows of a tree over the scheme."""
-    if len(rows) > MAX_ROWS:
-        raise TooMany(MAX_ROWS)
-    return Shape(scheme, rows)
+    return Shape(scheme, _counted(rows))
 
 
 def right_shape_of(scheme, value):
@@ -197,6 +195,13 @@ def right_shape_of(scheme, value):
 def is_over(scheme, value):
     """Whether the value is a shape over the scheme."""
     return isinstance(value, Shape) and value.scheme == scheme
+
+
+def _counted(rows):
+    """The same rows, if they are not too many."""
+    if len(rows) > MAX_ROWS:
+        raise TooMany(MAX_ROWS)
+    return rows
 
 
 def _gaps_of(rows):
