@@ -103,7 +103,8 @@ class Told(Checked):
         once.demand(("most", "put", 3))
         for pledge in pledges:
             bench.demand(pledge)
-        for value in [*odd_values(), TWOTHREE.put_drawing, ("good", "cut"), ["good", "put"], ("done", TWO, ("put", True)),
+        for value in [*odd_values(), TWOTHREE.put_drawing, ("good", "cut"), ["good", "put"], ("done", TWO, ("put",
+                True)),
                       ("done", TWO, ("put", 0)), ("done", list(TWO), ("put", 1)), GLUE_LINE, T, TWOTHREE]:
             told = value in pledges or (isinstance(value, str) and value in TWOTHREE.lines and " to " in value)
             told = told or (isinstance(value, str) and value == "put ^two")
@@ -403,8 +404,10 @@ class Pledges(Checked):
     def test_values_that_are_no_pledges(self):
         bench = Bench(TWOTHREE)
         lean = (("two", (None, None)), ("two", (0, None)))
-        wrong = [("good", "join"), ("good",), ("good", "put", 1), ("most", "left", 3), ("most", "put", -1), ("most", "put"),
-                 ("most", "put", True), ("most", "put", TOO_LONG), ("most", "put", 3, 3), ("done", TWO), ["good", "put"],
+        wrong = [("good", "join"), ("good",), ("good", "put", 1), ("most", "left", 3), ("most", "put", -1), ("most",
+                "put"),
+                 ("most", "put", True), ("most", "put", TOO_LONG), ("most", "put", 3, 3), ("done", TWO), ["good",
+                 "put"],
                  ("done", TWO, ("put", 2)), ("done", TWO, ("put", True)), ("done", TWO, ("mend", 0)), ("good", None),
                  ("done", (), ("cut", 0)), ("done", lean, ("put", 0)), ("done", (("red", (None, None)),), ("put", 0)),
                  ("done", list(TWO), ("put", 0)), ("done", TWO, ["put", 0]), ("Good", "put"), ("good", ["put"])]

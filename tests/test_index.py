@@ -326,7 +326,8 @@ class Asked(Checked):
             self.refused(InvalidOperation, call, TWOTHREE, THREE, value)
         for shape in (lean, Shape(HEIGHTS, ()), Shape(REDS.scheme, (("red", (None, None)),))):
             self.refused(InvalidShape, call, TWOTHREE, shape, (1, 2, 3))
-        for content in ((1,), (1, 2, 3), (2, 1), (1, 1), [1, 2], (1, True), (False, 1), (1, TOO_LONG), (1, None), (), None):
+        for content in ((1,), (1, 2, 3), (2, 1), (1, 1), [1, 2], (1, True), (False, 1), (1, TOO_LONG), (1, None), (),
+                None):
             self.refused(InvalidOperation, call, TWOTHREE, THREE, content)
         self.refused(InvalidOperation, call, TWOTHREE, Shape(T, tower(4000)), (1, 2))
 
@@ -375,7 +376,8 @@ class Asked(Checked):
 
     def test_between(self):
         index = Index(TWOTHREE, (1, 3, 5, 7))
-        self.assertEqual([list(index.between(*pair)) for pair in ((3, 7), (2, 8), (7, 3), (3, 3), (None, 5), (8, None))],
+        self.assertEqual([list(index.between(*pair)) for pair in ((3, 7), (2, 8), (7, 3), (3, 3), (None, 5), (8,
+                None))],
                          [[3, 5], [3, 5, 7], [], [], [1, 3], []])
         # A wrong bound is told when the first key is asked for.
         bounds = index.between("a", None)

@@ -107,7 +107,8 @@ class Papers(Case):
 
     def test_values_of_all_kinds(self):
         for value in odd_values():
-            for told in (value, ("good", value, RIGHT), ("good", LEFT, value), ("bad", value, TWO), (value, LEFT, RIGHT)):
+            for told in (value, ("good", value, RIGHT), ("good", LEFT, value), ("bad", value, TWO), (value, LEFT,
+                    RIGHT)):
                 self.assertIs(self.judged(is_join_paper, GLUE, told), False)
             fine = value in ((), (("two", (None, None)),), (("three", (None, None, None)),)) if type(
                 value) is tuple and repr(value).count("True") == 0 else False

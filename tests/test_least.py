@@ -257,7 +257,8 @@ class Judged(Case):
         rows = pair[0].rows
         self.assertIs(self.judged(is_paper, LESS, "put", ("bad", rows, ("put", 2))), True)
         for value in (("bad", rows, ("put", 1)), ("bad", rows, ("put", 4)), ("bad", rows, ("cut", 2)),
-                      ("bad", rows, ["put", 2]), ("bad", rows), ("bad", rows, ("put", 2), 0), ("good", rows, ("put", 2)),
+                      ("bad", rows, ["put", 2]), ("bad", rows), ("bad", rows, ("put", 2), 0), ("good", rows, ("put",
+                      2)),
                       ["bad", rows, ("put", 2)], ("bad", (), ("put", 0)), ("bad", rows, ("put", True)),
                       ("bad", rows, rows), ("bad", list(rows), ("put", 2)), ("bad", rows, ("put", -1)),
                       ("bad", (*rows, ("two", (None, None))), ("put", 2)), ("bad", rows, ("put", TOO_LONG)),
@@ -297,7 +298,8 @@ class Judged(Case):
 
     def test_values_of_all_kinds(self):
         values = [*odd_values(), *[("good", value) for value in odd_values()],
-                  *[("bad", value, ("put", 0)) for value in odd_values()], *[("bad", (), value) for value in odd_values()],
+                  *[("bad", value, ("put", 0)) for value in odd_values()], *[("bad", (),
+                  value) for value in odd_values()],
                   *[(value, ()) for value in odd_values()], nested(7, ("good",), lambda value: (value, value))]
         for book, kind in ((TWOTHREE, "put"), (LESS, "put"), (TWOTHREE, "left"), (TOPLESS, "put")):
             for value in values:

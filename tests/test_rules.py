@@ -196,7 +196,8 @@ class Statements(unittest.TestCase):
         for owner in classes():
             for node in methods(owner):
                 if node.name == "__len__":
-                    self.assertEqual([called(line.value) for line in node.body if isinstance(line, ast.Return)], ["len"])
+                    self.assertEqual([called(line.value) for line in node.body if isinstance(line, ast.Return)],
+                            ["len"])
 
     def test_parameters_behind_a_star(self):
         for path, tree in trees():

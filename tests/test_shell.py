@@ -135,7 +135,8 @@ class Asked(Case):
         for rows in ("two . .; two 0 .", "two . .; two . .", "red . .", "two . . .", "three . ."):
             self.assertEqual(shell(f"do put 0 in {rows}"), "shape")
         self.assertEqual(shell_of(REDS)("do put 0 in red . ."), "shape")
-        for rows in ("", "two", "two .", "two 0 .", "-; -", "two . .;two 0 0", "two . .; ", "two . . ", "two  . .", "two 0 0",
+        for rows in ("", "two", "two .", "two 0 .", "-; -", "two . .;two 0 0", "two . .; ", "two . . ", "two  . .",
+                "two 0 0",
                      "two . .;  two 0 0"):
             self.assertEqual(shell(f"do put 0 in {rows}"), "what")
 
@@ -146,12 +147,15 @@ class Asked(Case):
     def test_news_and_pledges(self):
         shell = self.answers(TWOTHREE, [
             ("demand good put", "nothing"), ("demand good put", "operation"), ("pledges", "good put"),
-            (f"erase {CUT}", "cut bad"), ("good cut", "no"), ("undo", "cut good"), ("redo", "cut bad"), ("redo", "undo"),
+            (f"erase {CUT}", "cut bad"), ("good cut", "no"), ("undo", "cut good"), ("redo", "cut bad"), ("redo",
+            "undo"),
             (f"erase {SPLIT}", "refused good put"), ("demand most put 3", "refused most put 3"),
             ("demand good cut", "refused good cut"), ("waive good cut", "operation"), ("waive good put", "nothing"),
-            ("pledges", "nothing"), (f"erase {SPLIT}", "put bad"), ("erase put ^two", "book"), ("erase put two", "unknown"),
+            ("pledges", "nothing"), (f"erase {SPLIT}", "put bad"), ("erase put ^two", "book"), ("erase put two",
+            "unknown"),
             ("draw put two", "nothing"), ("undo", "nothing"), ("undo", "put good"), ("draw put ^two", "book"),
-            ("draw put ^four", "drawing"), ("draw join t t +0 to ^two(. .)", "nothing"), ("demand good left", "nothing"),
+            ("draw put ^four", "drawing"), ("draw join t t +0 to ^two(. .)", "nothing"), ("demand good left",
+            "nothing"),
             ("demand good right", "nothing"), ("pledges", "good left; good right"),
             ("erase join t t +0 to ^two(. .)", "refused good left")])
         self.assertEqual(shell.bench().pledges, (("good", "left"), ("good", "right")))
@@ -162,7 +166,8 @@ class Asked(Case):
         flat = Book.from_lines(*FLAT.lines, "put ^tall", "cut flat(x .) to .", "cut flat(. x) to .")
         self.assertEqual([is_good(flat, kind) for kind in ("put", "cut")], [False, False])
         self.answers(LEVEL.without("cut two(x .) to ."), [
-            ("draw cut two(x .) to .", "cut good"), ("undo", "cut bad"), ("lack cut", "cut two 0"), ("lack put", "nothing")])
+            ("draw cut two(x .) to .", "cut good"), ("undo", "cut bad"), ("lack cut", "cut two 0"), ("lack put",
+            "nothing")])
 
     def test_places(self):
         self.answers(TOPLESS, [("lack put", "top red(. .)"), ("do put 0 in -", "fails top red(. .)")])
@@ -203,15 +208,20 @@ class Asked(Case):
     def test_values_that_are_no_commands(self):
         shell = shell_of(TWOTHREE)
         values = [value for value in odd_values() if value not in ("put ", "mend ")]
-        for value in [*values, "", " ", "good", "good ", "good  put", "good put ", " good put", "good putt", "good join",
-                      "Good put", "lack left", "lack right", "lack", "most left", "most", "undo 1", "undo ", " undo", "redo x",
-                      "lines ", "lines x", "pledges x", "unused x", "rows", "rows t", "paper", "paper t", "paper put cut",
+        for value in [*values, "", " ", "good", "good ", "good  put", "good put ", " good put", "good putt",
+                "good join",
+                      "Good put", "lack left", "lack right", "lack", "most left", "most", "undo 1", "undo ", " undo",
+                      "redo x",
+                      "lines ", "lines x", "pledges x", "unused x", "rows", "rows t", "paper", "paper t",
+                      "paper put cut",
                       "height", "height x", "height -1", "height +1", "height 01", "height 1 2", "height 1.5", "count",
                       "count 00", "count 1 ", "do", "do put", "do put 1", "do put in -", "do put 1 in", "do put 1 on -",
                       "do put x in -", "do put 01 in -", "do mend 1 in -", "do put 1 2 in -", "demand", "demand put",
                       "demand good", "demand good join", "demand most put", "demand most left 3", "demand most put x",
-                      "demand most put -1", "demand most put 01", "demand good put ", "demand done", "waive", "waive good x",
-                      "waive most cut", "good put\n", "lines\n", "undo\nundo", "draw", "erase", "fly", "what", "bench", "run",
+                      "demand most put -1", "demand most put 01", "demand good put ", "demand done", "waive",
+                      "waive good x",
+                      "waive most cut", "good put\n", "lines\n", "undo\nundo", "draw", "erase", "fly", "what",
+                      "bench", "run",
                       "draw put\n^two", "height " + "9" * 3990, b"lines", ["lines"], ("lines",), 3.5]:
             answer = shell(value)
             self.assertEqual(answer, "number" if value == "height " + "9" * 3990 else "what", repr(value)[:60])
@@ -249,7 +259,8 @@ class Histories(Case):
         """A history of commands beside a bench on which the same is done."""
         dice = random.Random(number)
         shell, bench = shell_of(book), Bench(book)
-        lines = [*[drawing.line for drawing in book], "put two", "join t t +0 to ^two(. .)", "join t t +0 to two(. .)", "put"]
+        lines = [*[drawing.line for drawing in book], "put two", "join t t +0 to ^two(. .)",
+                "join t t +0 to two(. .)", "put"]
         count = 0
         for _ in range(many):
             word = dice.choice(("draw", "erase", "erase", "demand", "demand", "waive", "undo", "redo"))
@@ -257,7 +268,8 @@ class Histories(Case):
                 ("most", kind, number) for kind in ("put", "cut") for number in (0, 1, 3)])
             line = dice.choice(lines)
             arguments = {"draw": [line], "erase": [line], "demand": [pledge], "waive": [pledge]}.get(word, [])
-            asked = " ".join([word, *[part if isinstance(part, str) else " ".join(map(str, part)) for part in arguments]])
+            asked = " ".join([word, *[part if isinstance(part, str) else " ".join(map(str,
+                    part)) for part in arguments]])
             try:
                 answer = news(getattr(bench, word)(*arguments))
                 count += 1

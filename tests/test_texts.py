@@ -131,7 +131,8 @@ class Papers(Case):
         self.check(("good", (whole, row)), "good\ntop two(. .)\ntwo 0 +1 two(. .) 1")
         self.check(("good", (("", 0, 0, "t", 0),)), "good\ntop t")
         self.check(("good", (("three", 0, 1, "two(. .)", 7),)), "good\nthree 0 +1 two(. .) 7")
-        self.check(("good", (("top", 3, -12, "a(b(. .) . .)", 0), ("top", 3, 0, "t", LONGEST), ("top", 3, 12, "t", 10))),
+        self.check(("good", (("top", 3, -12, "a(b(. .) . .)", 0), ("top", 3, 0, "t", LONGEST), ("top", 3, 12, "t",
+                10))),
                    f"good\ntop 3 -12 a(b(. .) . .) 0\ntop 3 +0 t {LONGEST}\ntop 3 +12 t 10")
         self.check(("bad", (TWO,), ("put", 2)), "bad put 2\ntwo . .")
         self.check(("bad", (), ("cut", 0)), "bad cut 0\n-")
@@ -186,27 +187,33 @@ class Papers(Case):
         for rows in ((row, row), (later, row), [row], (row, ("", 0, 0, "t", 0))):
             self.refused(InvalidPaper, write_paper, ("good", rows))
         for told in (("good", (row,), (row,)), ("good",), ["good", (row,)], ("bad", ()), ("bad", (), ("put", -1)),
-                     ("bad", (), ("put", True)), ("bad", (), ("join", 0)), ("bad", (), ("put", 0, 0)), ("bad", (), ["put", 0]),
+                     ("bad", (), ("put", True)), ("bad", (), ("join", 0)), ("bad", (), ("put", 0, 0)), ("bad", (),
+                     ["put", 0]),
                      ("bad", (), ("put", TOO_LONG)), ("bad", (row,), ("put", 0)), ("Good", ()), ("bad", (), (), ())):
             self.refused(InvalidPaper, write_paper, told)
 
     def test_wrong_first_lines(self):
-        for text in ("", "Good", "good ", " good", "bad", "bad put", "bad put -1", "bad put 02", "bad put +2", "bad mend 2",
+        for text in ("", "Good", "good ", " good", "bad", "bad put", "bad put -1", "bad put 02", "bad put +2",
+                "bad mend 2",
                      "bad put 2 3", "bad  put 2", "bad put 2 ", "bad join ", "join", "two . .", "-", "bad put x",
                      "bad put " + str(TOO_LONG), "bad left", "paper"):
             self.refused(ParseError, read_paper, text, number=0)
             self.refused(ParseError, read_paper, text + "\n-", number=0)
 
     def test_wrong_lines_of_good_papers(self):
-        for line in ("", "top", "top ", "top  t", "top t ", "top T", "top .", "top two(.)", "top t u", "two 0 +1 t", "two 0 1 t 1",
+        for line in ("", "top", "top ", "top  t", "top t ", "top T", "top .", "top two(.)", "top t u", "two 0 +1 t",
+                "two 0 1 t 1",
                      "two 0 +1 t 01", "two 00 +1 t 1", "two 4 +1 t 1", "two -1 +1 t 1", "two 0 +13 t 1", "two 0 -0 t 1",
-                     "two 0 +01 t 1", "two 0 +1 . 1", "two 0 +1 two(. . 1", "two 0 +1 t +1", "two 0 +1 t -1", "Two 0 +1 t 1",
-                     "two 0 +1 t 1 ", " two 0 +1 t 1", "two  0 +1 t 1", "two 0 +1 two(.  .) 1", "-", "bad put 2", "good",
+                     "two 0 +01 t 1", "two 0 +1 . 1", "two 0 +1 two(. . 1", "two 0 +1 t +1", "two 0 +1 t -1",
+                     "Two 0 +1 t 1",
+                     "two 0 +1 t 1 ", " two 0 +1 t 1", "two  0 +1 t 1", "two 0 +1 two(.  .) 1", "-", "bad put 2",
+                     "good",
                      f"two 0 +1 t {TOO_LONG}", "two 0 +1 t 1 1", "two . ."):
             self.refused(ParseError, read_paper, f"good\n{line}", number=1)
             self.refused(ParseError, read_paper, f"good\ntop a\n{line}\ntop T", number=2)
         # Each row has to ascend.
-        for lines, number in ((("top t", "top t"), 2), (("two 0 +1 t 1", "top t"), 2), (("a 0 +0 t 9", "a 0 +0 t 10"), None),
+        for lines, number in ((("top t", "top t"), 2), (("two 0 +1 t 1", "top t"), 2), (("a 0 +0 t 9", "a 0 +0 t 10"),
+                None),
                               (("a 0 +0 t 10", "a 0 +0 t 9"), 2), (("a 0 -1 t 1", "a 0 +1 t 1", "a 0 +0 t 1"), 3),
                               (("a 1 +1 t 1", "a 1 +1 t 1"), 2)):
             text = "\n".join(["good", *lines])
@@ -221,7 +228,8 @@ class Papers(Case):
                 ("bad put 2\n-\n-", 1), ("bad put 2\ntwo . .\n-", 2), ("bad put 2\ntwo . .\nwith\n-", 2),
                 ("bad put 2\nwith", 1), ("bad join", 1), ("bad join\n-", 2), ("bad join\n-\nwith", 3),
                 ("bad join\ntwo . .\ntwo 0 .", 3), ("bad join\nwith\n-", 1), ("bad join\nwith", 1), ("bad join\n", 1),
-                ("bad join\ntwo . .\nwith\n", 3), ("bad join\ntwo . .\nwith\ntwo 0 .", 3), ("bad join\ntwo 0 .\nwith\n-", 1),
+                ("bad join\ntwo . .\nwith\n", 3), ("bad join\ntwo . .\nwith\ntwo 0 .", 3),
+                ("bad join\ntwo 0 .\nwith\n-", 1),
                 ("bad join\n-\nwith \n-", 1), ("bad join\ntwo . .\nwith \n-", 2), ("bad join\n-\nwith\n-\n", 3)):
             self.refused(ParseError, read_paper, text, number=number)
 

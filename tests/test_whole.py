@@ -33,7 +33,8 @@ def decided(value):
     return [
         (paper, value, "put"), (paper, LESS, value), (is_paper, value, "put", ()), (is_paper, LESS, value, ()),
         (is_paper, LESS, "put", value), (is_good, value, "put"), (is_good, LESS, value), (least_bad, value, "put"),
-        (least_bad, LESS, value), (realize, value, "put", ()), (realize, LESS, value, ()), (realize, LESS, "put", value),
+        (least_bad, LESS, value), (realize, value, "put", ()), (realize, LESS, value, ()), (realize, LESS, "put",
+        value),
         (join_shapes, value, FULL, FULL), (join_shapes, GLUE, value, FULL), (join_shapes, GLUE, FULL, value),
         (join_steps, GLUE, value, FULL), (join_steps, GLUE, FULL, value), (raise_shape, value, FULL),
         (raise_shape, GLUE, value), (split_shape, value, FULL, 0), (split_shape, GLUE, value, 0),
@@ -50,7 +51,8 @@ def indexed(value):
         (Index, value), (Index, GLUE, value), (Index.from_shape, value, FULL, (1, 2, 3)),
         (Index.from_shape, GLUE, value, (1, 2, 3)), (Index.from_shape, GLUE, FULL, value), (INDEX.__contains__, value),
         (INDEX.__getitem__, value), (INDEX.less, value), (INDEX.under, value), (INDEX.over, value),
-        (lambda: list(INDEX.between(value, None)),), (lambda: list(INDEX.between(None, value)),), (INDEX.with_key, value),
+        (lambda: list(INDEX.between(value, None)),), (lambda: list(INDEX.between(None, value)),), (INDEX.with_key,
+        value),
         (INDEX.without_key, value), (INDEX.united, value), (INDEX.lessened, value), (INDEX.shared, value),
         (lambda: INDEX.elder(many=value),), (INDEX.__eq__, value),
     ]
@@ -100,12 +102,14 @@ class Conventions(Case):
     def test_sequences_that_are_returned_are_tuples(self):
         bench = Bench(GLUE)
         bench.demand(("good", "put"))
-        found = [paper(LESS, "put"), paper(GLUE, "put"), paper(LESS, "put")[1], least_bad(LESS, "put"), join_paper(GLUE),
+        found = [paper(LESS, "put"), paper(GLUE, "put"), paper(LESS, "put")[1], least_bad(LESS, "put"),
+                join_paper(GLUE),
                  least_bad(LESS, "left"), least_bad(LESS, "put")[1], realize(LESS, "put", (("put",),)),
                  join_steps(GLUE, FULL, FULL), join_steps(GLUE, FULL, FULL)[0], join_steps(GLUE, FULL, FULL)[0][0],
                  split_shape(GLUE, FULL, 1), unraised(TOPLESS), long_deed(GLUE, "put", 2), used(GLUE, "put"),
                  least_use(GLUE, "put", "put ^two"), lacking(LESS, "put"), lacking(LESS, "put")[0], INDEX.content,
-                 bench.pledges, bench.undo(), bench.redo(), read_rows("-"), read_rows("two . ."), read_paper("good"), read_paper("good\ntop t")[1]]
+                 bench.pledges, bench.undo(), bench.redo(), read_rows("-"), read_rows("two . ."), read_paper("good"),
+                         read_paper("good\ntop t")[1]]
         for value in found:
             self.assertIs(type(value), tuple)
 
@@ -180,7 +184,8 @@ class Statements(Case):
                 if drawing.kind not in ("put", "join") and drawing.line not in lines:
                     less = book.without(drawing.line)
                     for kind in ("put", "cut"):
-                        self.assertEqual((is_good(less, kind), lacking(less, kind)), (is_good(book, kind), lacking(book, kind)))
+                        self.assertEqual((is_good(less, kind), lacking(less, kind)), (is_good(book, kind),
+                                lacking(book, kind)))
 
     def test_good_books_cannot_spare_what_deeds_use(self):
         for book in (TWOTHREE, LEVEL, ONCE, TWICE, REDS, balanced_book()):
@@ -215,7 +220,8 @@ class Statements(Case):
             forms = {name: f"x{name}" for name in book.scheme.names}
             other = renamed_book(book, sorts, forms)
             for kind in DEEDS:
-                self.assertEqual((is_good(book, kind), len(Table(book, kind))), (is_good(other, kind), len(Table(other, kind))))
+                self.assertEqual((is_good(book, kind), len(Table(book, kind))), (is_good(other, kind),
+                        len(Table(other, kind))))
             self.assertEqual(len(spared(book)), len(spared(other)))
             for kind in ("put", "cut"):
                 self.assertEqual(len(lacking(book, kind)), len(lacking(other, kind)))
