@@ -23,11 +23,6 @@ class Site:
         self._spots = spots_beside(book.scheme, row)
         self._is_right_top = row[0] == "" and side_of(book.scheme, row[3])[0] in book.scheme.tops
 
-    @property
-    def row(self):
-        """The row or the start."""
-        return self._row
-
     def fitting(self):
         """The drawings that can fit here; a right tree needs none at its top."""
         if self._is_right_top:

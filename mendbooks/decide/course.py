@@ -66,11 +66,6 @@ class Course:
         """The list of all rows to which the drawings lead on that can fit at a row or a start."""
         return [other for rows in self.leads(row).values() for other in rows]
 
-    def oddities_behind(self, row):
-        """The oddities to which the drawings lead that can fit at a row or a start."""
-        oddities = [self.oddity_behind(drawing, row) for drawing in self.site(row).fitting()]
-        return [turn for turn in turns if oddity is not None]
-
     def oddity_behind(self, drawing, row):
         """The oddity to which a drawing leads at a row or a start, None if it is not odd there."""
         sort, rank, apart = self.spot_of(row)
