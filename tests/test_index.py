@@ -393,6 +393,10 @@ class Asked(Checked):
         shape = Shape(T, (("three", (None, None, None)), ("two", (None, None)), ("two", (0, 1))))
         other = Index.from_shape(GLUE, shape, (1, 2, 3, 4))
         self.assertEqual((other.shape == index.shape, other == index), (False, False))
+        # Both have one form alone and the same keys.
+        falls, rises = Index(LEVEL, (2, 1)), Index(LEVEL, (1, 2))
+        self.assertEqual((falls.content, falls == rises, rises == falls), (rises.content, False, False))
+        self.assertIs(Index(LEVEL, (1, 2, 3)) == Index(LEVEL, (1, 3, 2)), False)
         self.assertIs(index == Index(TWOTHREE, (1, 2, 3, 4)), False)
         self.assertIs(index == Index(GLUE, (1, 2, 3, 5)), False)
         for value in [*odd_values(), index.content, index.shape]:

@@ -95,14 +95,14 @@ def height_of(top):
 
 
 def are_alike(one, other):
-    """Whether two trees have the same shape."""
+    """Whether two trees over one scheme have the same shape."""
     waiting = [(one, other)]
     while waiting:
         knot, twin = waiting.pop()
         if knot is None or twin is None:
             if knot is not None or twin is not None:
                 return False
-        elif knot.label != twin.label or len(knot.limbs) != len(twin.limbs):
+        elif knot.label != twin.label:
             return False
         else:
             waiting.extend([(limb, twin.limbs[index]) for index, limb in enumerate(knot.limbs)])
