@@ -1,6 +1,7 @@
 """Point 18.1, and the first three sections of the eighteenth stage: texts."""
 
 import itertools
+import random
 
 from mendbooks.books.books import Book, mirrored_book
 from mendbooks.decide.joins import join_paper
@@ -240,3 +241,29 @@ class Papers(Case):
                 text = "\n".join(lines[:many])
                 if many == 1 or told[2] != ("put", 1):
                     self.refused(ParseError, read_paper, text, number=many)
+
+
+class Changed(Case):
+
+    def test_each_text_is_read_in_one_way(self):
+        # What can be read is written again as just the same text.
+        dice = random.Random(7)
+        read = 0
+        for call, back, texts in (
+                (read_rows, write_rows, ("two . .\nthree 0 . 0", "-", "two . .\ntwo 0 0\ntwo 1 0")),
+                (read_paper, write_paper, ("good\ntop two(. .)\ntwo 0 +1 two(. .) 1", "bad put 2\ntwo . .\ntwo 0 0",
+                                           "bad join\n-\nwith\ntwo . .", "good"))):
+            for _ in range(4000):
+                signs = list(dice.choice(texts))
+                for _ in range(dice.randrange(4)):
+                    at = dice.randrange(len(signs) + 1)
+                    signs[at:at + dice.randrange(2)] = dice.choice(["", *"abt .()!+-^012\n"])
+                text = "".join(signs)
+                try:
+                    told = call(text)
+                except ParseError as error:
+                    self.assertTrue(0 <= error.number <= text.count("\n") + 1)
+                    continue
+                self.assertEqual(back(told), text)
+                read += 1
+        self.assertGreater(read, 2000)
