@@ -30,8 +30,10 @@ def holds(book, pledge):
     word, told, *rest = pledge
     if word == "done":
         return failing_place(book, Shape(book.scheme, told), rest[0]) is None
-    if word == "good" or not is_good(book, told):
-        return is_good(book, told)
+    if not is_good(book, told):
+        return False
+    if word == "good":
+        return True
     most = most_drawings(book, told)
     return most is not None and most <= rest[0]
 
