@@ -37,6 +37,10 @@ REDS_LINES = (
     "mend rr(red(. .) !+0:rred(. red(. .))) to ^red(bb(. .) br(. red(. .)))")
 REDS = Book.from_lines(*REDS_LINES)
 
+# The place of a join can be red: then one red node stands below another one, as behind a put.
+RED_JOINS = Book.from_lines(*REDS_LINES, "join b b +0 to ^red(. .)", "join red(. .) b +0 to ^rred(. ^red(. .))",
+                            "join b red(. .) +0 to ^lred(^red(. .) .)")
+
 HEIGHTS = Scheme.from_lines("bare t", "tops t", "form even t t1 t1", "form left t t1 t2", "form right t t2 t1")
 
 

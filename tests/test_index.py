@@ -11,7 +11,7 @@ from mendbooks.ranks.counts import each_right
 from mendbooks.trees.shapes import Shape
 from mendbooks.use.index import Index
 from tests import chance, naive, naive_joins
-from tests.books import GLUE, REDS, TWOTHREE, balanced_book
+from tests.books import GLUE, RED_JOINS, REDS, TWOTHREE, balanced_book
 from tests.cases import Case
 from tests.samples import HEIGHTS, LONGEST, TOO_LONG, odd_values
 from tests.test_deeds import tower
@@ -201,6 +201,17 @@ class Merged(Checked):
                 one = Index(book, tuple(dice.sample(range(60), many)))
                 other = Index(book, tuple(dice.sample(range(60), more)))
                 self.assertEqual(self.check_merged(one, other), 2)
+
+    def test_red_trees(self):
+        dice = random.Random(3)
+        done = 0
+        for many, more in itertools.product((0, 1, 3, 8, 30), repeat=2):
+            one = Index(RED_JOINS, tuple(dice.sample(range(60), many)))
+            other = Index(RED_JOINS, tuple(dice.sample(range(0, 60, 7) if more < 9 else range(60), more)))
+            ends = self.check_merged(one, other)
+            self.assertEqual(one.united(other).shape.size, len({*one.content, *other.content}))
+            done += ends
+        self.assertGreater(done, 30)
 
     def test_small_trees(self):
         for book in (GLUE, ROOT):

@@ -13,7 +13,7 @@ from mendbooks.ranks.counts import each_right
 from mendbooks.ranks.ranks import Ranks
 from mendbooks.trees.shapes import Shape
 from tests import chance, naive, naive_joins
-from tests.books import GLUE, REDS, TWOTHREE
+from tests.books import GLUE, RED_JOINS, REDS, TWOTHREE
 from tests.cases import Case
 from tests.closure import Closure
 from tests.samples import odd_values
@@ -34,7 +34,7 @@ class Papers(Case):
         self.assertEqual([join_paper(TWOTHREE), is_join_paper(GLUE, ("good", LEFT, RIGHT))], [("bad", (), ()), True])
 
     def test_good_books(self):
-        for book in (GLUE, mirrored_book(GLUE)):
+        for book in (GLUE, mirrored_book(GLUE), RED_JOINS, mirrored_book(RED_JOINS)):
             told = join_paper(book)
             self.assertEqual(told, ("good", Table(book, "left").rows, Table(book, "right").rows))
             self.assertIs(self.judged(is_join_paper, book, told), True)
@@ -62,6 +62,7 @@ class Papers(Case):
     def test_bad_papers_by_force(self):
         found = [self.check_bad(book) for book in (
             TWOTHREE, LEVEL, ROOT, mirrored_book(ROOT), *[GLUE.without(drawing.line) for drawing in GLUE.drawings[1:]],
+            *[RED_JOINS.without(drawing.line) for drawing in RED_JOINS.drawings[1:]],
             *with_ranks(range(800, 830)), *[chance.joining_book(number) for number in range(12)])]
         self.assertGreater(found.count(True), 30)
 
@@ -153,7 +154,7 @@ class Tables(Case):
         self.assertEqual(found, {-2, -1, 0, 1, 2})
 
     def test_several_sorts(self):
-        for book in (ROOT, mirrored_book(ROOT), *with_ranks(range(840, 860))):
+        for book in (ROOT, mirrored_book(ROOT), RED_JOINS, mirrored_book(RED_JOINS), *with_ranks(range(840, 860))):
             self.check_tables(book)
 
     def test_small_trees_fail_where_tables_are_open(self):
@@ -217,9 +218,9 @@ class Unraised(Case):
                         found.add(name)
             self.assertEqual(unraised(book), tuple(sorted(found)))
     def test_books_without_any_split_all_trees(self):
-        for book in (GLUE, mirrored_book(GLUE)):
+        for book in (GLUE, mirrored_book(GLUE), RED_JOINS):
             self.assertEqual((unraised(book), join_paper(book)[0]), ((), "good"))
-            for shape in [shape for keys in range(10) for shape in each_right(book.scheme, keys)]:
+            for shape in shapes_until(book.scheme, 9, 60)[0]:
                 for number in range(shape.size):
                     self.assertEqual([part.is_right for part in split_shape(book, shape, number)], [True, True])
 

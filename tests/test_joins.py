@@ -8,7 +8,7 @@ from mendbooks.mend.joins import join_shapes, join_steps, raise_shape, split_sha
 from mendbooks.ranks.counts import each_right
 from mendbooks.trees.shapes import Shape
 from tests import chance, naive, naive_joins
-from tests.books import GLUE, REDS, TWOTHREE
+from tests.books import GLUE, RED_JOINS, REDS, TWOTHREE
 from tests.cases import Case
 from tests.samples import HEIGHTS, TOO_LONG, odd_values
 from tests.schemes import rings
@@ -82,6 +82,19 @@ class Beside(Case):
     def test_books_with_drawings_left_out(self):
         for drawing in GLUE.drawings[1:]:
             self.check_book(GLUE.without(drawing.line), 7)
+
+    def test_places_that_are_red(self):
+        for book in (RED_JOINS, mirrored_book(RED_JOINS)):
+            told, done = self.check_book(book, 6)
+            self.assertNotIn(None, told)
+            self.assertEqual(done, sum(shape.size for shape in shapes_until(book.scheme, 6, 30)[0]))
+            self.assertGreater(max(depth for _, _, depth in told), 1)
+            # Most of them go on behind a red place, up to the top.
+            shapes = [shape for keys in (7, 10) for shape in itertools.islice(each_right(book.scheme, keys), 40)]
+            for one, other in zip(shapes, shapes[::-1]):
+                self.assertIsNotNone(self.check_join(book, one, other))
+                self.assertIsNotNone(self.check_join(book, one, Shape(book.scheme, ())))
+                self.assertEqual(self.check_splits(book, one), one.size)
 
     def test_red_trees(self):
         for book in (ROOT, mirrored_book(ROOT)):

@@ -3,6 +3,8 @@
 import itertools
 
 from mendbooks.books.books import Book, mirrored_book, renamed_book
+from mendbooks.decide.chase import Chase, Failing, Using
+from mendbooks.decide.growth import Growth
 from mendbooks.decide.least import is_good, is_paper, least_bad, paper, realize
 from mendbooks.decide.tables import DEEDS, Table
 from mendbooks.errors import InvalidBook, InvalidOperation, TooMany
@@ -12,7 +14,7 @@ from mendbooks.ranks.counts import each_right
 from mendbooks.ranks.ranks import Ranks
 from mendbooks.trees.shapes import Shape
 from tests import naive, naive_joins
-from tests.books import GLUE, REDS, TWOTHREE, balanced_book
+from tests.books import GLUE, RED_JOINS, REDS, TWOTHREE, balanced_book
 from tests.cases import Case
 from tests.following import parts_of
 from tests.samples import TOO_LONG, nested, odd_values, same
@@ -137,6 +139,24 @@ class Force(Case):
                     self.assertEqual(pair is None, twin is None)
                     if pair is not None:
                         self.assertEqual(keys_of(pair), keys_of(twin))
+
+
+class Counted(Case):
+
+    def test_ways_have_the_keys_that_are_counted(self):
+        counted = 0
+        for book in (LESS, TOPLESS, FAR, GLUE, RED_JOINS, *[REDS.without(drawing.line) for drawing in REDS.drawings[1:]],
+                     *with_ranks(range(790, 800))):
+            growth = Growth(book.scheme)
+            for kind in DEEDS:
+                table = Table(book, kind)
+                for point in [Using(line) for row in table.starts for line in table.leads(row)] + (
+                        [] if table.is_good else [Failing()]):
+                    chase = Chase(table.course, point)
+                    pieces = chase.cheapest()
+                    self.assertEqual(keys_of(chase.grown(pieces)), sum(growth.keys_of(*piece) for piece in pieces))
+                    counted += any(case for _, case in pieces)
+        self.assertGreater(counted, 20)
 
 
 class Told(Case):
@@ -332,7 +352,7 @@ class Real(Case):
             self.assertTrue(len(parts) > len(way) or not Table(book, kind).leads(way[-1]))
 
     def test_ways_to_all_rows(self):
-        for book in (TWOTHREE, GLUE, LESS, REDS, TOPLESS, FAR, LEVEL, balanced_book()):
+        for book in (TWOTHREE, GLUE, LESS, REDS, RED_JOINS, TOPLESS, FAR, LEVEL, balanced_book()):
             for kind in DEEDS:
                 table = Table(book, kind)
                 for row in table.rows:
