@@ -150,6 +150,22 @@ class Joined(Case):
         self.assertEqual(join_steps(book, chain, chain), (((), "join t t +0 to two(. .)"),))
         self.assertEqual(join_shapes(book, chain, chain).size, 7)
 
+    def test_a_join_that_changes_only_the_sort(self):
+        # The result has the sort of the other side; it is odd, as it is not that of the place.
+        book = Book.from_lines("bare a", "tops a", "form e a a1 a1", "form f a a0 a0 a0", "form k c a0 a0",
+                               "form p a a1 c1", "form q a c1 a1", "put ^e", "join k(. .) a +0 to f(. . .)",
+                               "join a k(. .) +0 to f(. . .)", "mend p(. !+0:a) to e(. .)", "mend q(!+0:a .) to e(. .)")
+        empty = Shape(book.scheme, ())
+        last = Shape(book.scheme, (("k", (None, None)), ("p", (None, 0))))
+        self.assertEqual(join_steps(book, last, empty), (
+            ((1,), "join k(. .) a +0 to f(. . .)"), ((), "mend p(. !+0:a) to e(. .)")))
+        first = Shape(book.scheme, (("k", (None, None)), ("q", (0, None))))
+        self.assertEqual(join_steps(book, empty, first), (
+            ((0,), "join a k(. .) +0 to f(. . .)"), ((), "mend q(!+0:a .) to e(. .)")))
+        for one, other in ((last, empty), (empty, first)):
+            self.assertEqual(join_shapes(book, one, other).rows, (
+                ("f", (None, None, None)), ("e", (None, 0) if one is last else (0, None))))
+
     def test_the_top_behind_a_join(self):
         one = Shape(R, (("bb", (None, None)),))
         self.assertEqual(join_steps(ROOT, one, one), (
