@@ -25,6 +25,14 @@ CUT = "cut three(. x .) to two(. .)"
 SPLIT = "mend three(. . !+1:two(. .)) to ^two(two(. .) two(. .))"
 GLUE_LINE = "join t t +0 to ^two(. .)"
 TWO = (("two", (None, None)),)
+# Puts and some cuts leave the same hand.
+TOP = "top new(. .) to two(. .)"
+BOTH = Book.from_lines(
+    "bare t", "tops t", "form two t t0 t0", "form tri t t0 t0 t0", "form new s t0 t0", "put ^new", TOP,
+    "cut two(x .) to .", "cut two(. x) to .", "cut tri(x . .) to ^new(. .)", "cut tri(. x .) to ^new(. .)",
+    "cut tri(. . x) to ^new(. .)", "mend two(!+0:new(. .) .) to two(two(. .) .)",
+    "mend two(. !+0:new(. .)) to two(. two(. .))", "mend tri(!+0:new(. .) . .) to tri(two(. .) . .)",
+    "mend tri(. !+0:new(. .) .) to tri(. two(. .) .)", "mend tri(. . !+0:new(. .)) to tri(. . two(. .))")
 
 
 def news_of(before, after):
@@ -95,6 +103,15 @@ class Told(Checked):
         self.assertEqual((bench.book.put_drawing.line, len(bench)), ("put two", 21))
         # Of joins the news tell nothing.
         self.assertEqual(bench.draw(GLUE_LINE), ())
+
+    def test_news_of_both_kinds(self):
+        bench = Bench(BOTH)
+        bad, good = (("put", False), ("cut", False)), (("put", True), ("cut", True))
+        for line in (TOP, "mend two(. !+0:new(. .)) to two(. two(. .))"):
+            self.assertEqual([bench.erase(line), bench.undo(), bench.redo(), bench.draw(line)], [bad, good, bad, good])
+        self.assertEqual(bench.erase("cut tri(x . .) to ^new(. .)"), (("cut", False),))
+        self.assertEqual([bench.erase(TOP), bench.undo(many=2)], [(("put", False),), good])
+        self.assertEqual(bench.undo(many=0), ())
 
     def test_in(self):
         bench = Bench(TWOTHREE)

@@ -19,7 +19,8 @@ from mendbooks.use.bench import Bench
 from tests.books import GLUE, REDS, TWOTHREE, balanced_book
 from tests.cases import Case
 from tests.samples import TOO_LONG, odd_values
-from tests.schemes import LEVEL as FLAT, rings
+from tests.schemes import rings
+from tests.test_bench import BOTH, TOP
 from tests.test_least import FAR, TOPLESS
 from tests.test_tables import LESS, LEVEL, wide_book
 from tests.test_uses import ONCE, TWICE
@@ -162,9 +163,8 @@ class Asked(Case):
         self.answers(TWICE, [("demand most put 3", "nothing"), ("demand most put 2", "refused most put 2"),
                              ("demand most cut 1", "nothing"), ("pledges", "most put 3; most cut 1"),
                              ("most put", "3"), ("waive most put 3", "nothing"), ("pledges", "most cut 1")])
-        # Both kinds change by one change, too.
-        flat = Book.from_lines(*FLAT.lines, "put ^tall", "cut flat(x .) to .", "cut flat(. x) to .")
-        self.assertEqual([is_good(flat, kind) for kind in ("put", "cut")], [False, False])
+        self.answers(BOTH, [(f"erase {TOP}", "put bad, cut bad"), ("undo", "put good, cut good"),
+                            ("redo", "put bad, cut bad"), (f"draw {TOP}", "put good, cut good")])
         self.answers(LEVEL.without("cut two(x .) to ."), [
             ("draw cut two(x .) to .", "cut good"), ("undo", "cut bad"), ("lack cut", "cut two 0"), ("lack put",
             "nothing")])
