@@ -187,6 +187,41 @@ class Told(Case):
             self.assertEqual(pair is None, kind == "right")
         self.assertEqual(paper(less, "left"), ("bad", (("two", (None, None)),), ()))
 
+    def test_joins_that_fail_at_each_rank(self):
+        # Trees of the rank 1 have a sort of their own; only two of them cannot be joined.
+        book = Book.from_lines(
+            "bare z", "tops t z", "form two t z1 z1", "form three t z1 z1 z1", "form four t z1 z1 z1 z1", "put ^two",
+            "join z z +0 to ^two(. .)", "mend two(. !+1:two(. .)) to three(. . .)",
+            "mend three(. . !+1:two(. .)) to four(. . . .)", "mend two(!+1:two(. .) .) to three(. . .)",
+            "mend three(!+1:two(. .) . .) to four(. . . .)")
+        two = (("two", (None, None)),)
+        self.assertEqual(least_by_force(book, "left", 3), (2, 3))
+        self.assertEqual(paper(book, "left"), ("bad", two, two))
+        for rank in range(5):
+            pair = least_bad(self.ranked(rank), "left")
+            self.assertEqual((pair[0].spot, pair[1].spot), ((f"s{chr(97 + rank)}", rank),) * 2)
+            self.assertEqual(keys_of(pair), 2 * (2 ** rank - 1))
+
+    def ranked(self, bad):
+        """A book in which each rank has a sort of its own, and trees of one rank cannot be joined."""
+        sorts = [f"s{chr(97 + rank)}" for rank in range(7)]
+        lines = [f"bare {sorts[0]}", f"tops {' '.join(sorts)}", "put ^fb"]
+        for rank, (low, high) in enumerate(zip(sorts, sorts[1:])):
+            two, three, four = [f"{letter}{high[1]}" for letter in "fgh"]
+            lines += [f"form {name} {high} {' '.join([low + '1'] * many)}"
+                      for many, name in ((2, two), (3, three), (4, four))]
+            lines += [f"mend {two}(. !+1:{two}(. .)) to {three}(. . .)",
+                      f"mend {two}(!+1:{two}(. .) .) to {three}(. . .)",
+                      f"mend {three}(. . !+1:{two}(. .)) to {four}(. . . .)",
+                      f"mend {three}(!+1:{two}(. .) . .) to {four}(. . . .)"]
+            if rank != bad:
+                lines.append(f"join {low} {low} +0 to ^{two}(. .)")
+            if rank < 5:
+                above = f"f{sorts[rank + 2][1]}"
+                lines += [f"mend {four}(. . . !+1:{two}(. .)) to ^{above}({two}(. .) {three}(. . .))",
+                          f"mend {four}(!+1:{two}(. .) . . .) to ^{above}({three}(. . .) {two}(. .))"]
+        return Book.from_lines(*lines)
+
     def test_failing_high_up(self):
         # Below nodes p, of which right trees have one at the rank 3 or higher, nothing is mended.
         book = Book.from_lines(*TWOTHREE.lines, "form p v t3 t3", "form q w v3 v3", "form far t w1 t1")

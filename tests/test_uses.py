@@ -30,6 +30,12 @@ BARE = Book.from_lines("bare a", "tops a", "form x b a1 a1", "put ^x", "cut x(x 
 STEPS = Book.from_lines("bare a", "tops a d", "form x b a1 a1", "form y c b1 b1", "form z d c1 c1",
                         "form w e d1 d1", "put x")
 
+# A root stands nowhere else; what is done there is not over until a drawing is done at the top.
+ROOTED = Book.from_lines(*[line for line in ONCE.lines if not line.startswith("tops")], "tops r t", "form root r t0 t0",
+                         "form half h t0 t0", "mend root(!+0:new(. .) .) to ^half(two(. .) .)",
+                         "mend root(. !+0:new(. .)) to ^half(. two(. .))", "top half(. .) to root(. .)",
+                         "cut root(x .) to .", "cut root(. x) to .")
+
 
 def lines_used(book, shape, deed):
     """The lines of the drawings that a deed uses, whether it is done or fails."""
@@ -87,7 +93,8 @@ class Used(Case):
         return len(book) - len(told)
 
     def test_known_books(self):
-        for book in (TWOTHREE, GLUE, LESS, REDS, TOPLESS, FAR, LEVEL, BARE, STEPS, ONCE, TWICE, mirrored_book(REDS)):
+        for book in (TWOTHREE, GLUE, LESS, REDS, TOPLESS, FAR, LEVEL, BARE, STEPS, ONCE, TWICE, ROOTED,
+                     mirrored_book(REDS)):
             self.check_book(book, 6)
 
     def test_many_drawings(self):
@@ -160,7 +167,7 @@ class Long(Case):
                     self.assertGreater(self.longest_by_force(book, kind, 7), 2)
 
     def test_no_ring(self):
-        for book, puts in ((LEVEL, 1), (ONCE, 2), (TWICE, 3)):
+        for book, puts in ((LEVEL, 1), (ONCE, 2), (TWICE, 3), (ROOTED, 3)):
             self.assertEqual([most_drawings(book, kind) for kind in KINDS], [puts, 1])
             self.assertEqual([self.longest_by_force(book, kind, 5) for kind in KINDS], [puts, 1])
             for kind in KINDS:
