@@ -20,6 +20,17 @@ TWOTHREE = Book.from_lines(
     "mend three(. three(. . .) !-1:t) to three(. two(. .) two(. .))")
 GLUE = TWOTHREE.with_drawing("join t t +0 to ^two(. .)")
 
+# Nodes with two to four children, for puts and for joins.
+FOURS = Book.from_lines(
+    "bare t", "tops t", "form two t t1 t1", "form three t t1 t1 t1", "form four t t1 t1 t1 t1", "put ^two",
+    "join t t +0 to ^two(. .)", "mend two(!+1:two(. .) .) to three(. . .)", "mend two(. !+1:two(. .)) to three(. . .)",
+    "mend three(!+1:two(. .) . .) to four(. . . .)", "mend three(. !+1:two(. .) .) to four(. . . .)",
+    "mend three(. . !+1:two(. .)) to four(. . . .)",
+    "mend four(!+1:two(. .) . . .) to ^two(two(. .) three(. . .))",
+    "mend four(. !+1:two(. .) . .) to ^two(two(. .) three(. . .))",
+    "mend four(. . !+1:two(. .) .) to ^two(three(. . .) two(. .))",
+    "mend four(. . . !+1:two(. .)) to ^two(three(. . .) two(. .))")
+
 # Red and black nodes: `l` is the sort of a red node with a red child, which no right tree has.
 REDS_LINES = (
     "bare b", "tops b", "form bb b b1 b1", "form br b b1 r1", "form rb b r1 b1", "form rr b r1 r1",

@@ -11,7 +11,7 @@ from mendbooks.ranks.counts import each_right
 from mendbooks.trees.shapes import Shape
 from mendbooks.use.index import Index
 from tests import chance, naive, naive_joins
-from tests.books import GLUE, RED_JOINS, REDS, TWOTHREE, balanced_book
+from tests.books import FOURS, GLUE, RED_JOINS, REDS, TWOTHREE, balanced_book
 from tests.cases import Case
 from tests.samples import HEIGHTS, LONGEST, TOO_LONG, odd_values
 from tests.test_deeds import tower
@@ -212,6 +212,15 @@ class Merged(Checked):
             self.assertEqual(one.united(other).shape.size, len({*one.content, *other.content}))
             done += ends
         self.assertGreater(done, 30)
+
+    def test_nodes_with_four_children(self):
+        dice = random.Random(9)
+        for keys in range(3, 14):
+            for shape in itertools.islice(each_right(FOURS.scheme, keys), 12):
+                one = Index.from_shape(FOURS, shape, tuple(sorted(dice.sample(range(40), keys))))
+                other = Index(FOURS, tuple(dice.sample(range(40), dice.randrange(12))))
+                for pair in ((one, other), (other, one), (one, one)):
+                    self.assertGreater(self.check_merged(*pair), 0)
 
     def test_small_trees(self):
         for book in (GLUE, ROOT):

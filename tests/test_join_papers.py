@@ -13,7 +13,7 @@ from mendbooks.ranks.counts import each_right
 from mendbooks.ranks.ranks import Ranks
 from mendbooks.trees.shapes import Shape
 from tests import chance, naive, naive_joins
-from tests.books import GLUE, RED_JOINS, REDS, TWOTHREE
+from tests.books import FOURS, GLUE, RED_JOINS, REDS, TWOTHREE
 from tests.cases import Case
 from tests.closure import Closure
 from tests.samples import odd_values
@@ -34,7 +34,7 @@ class Papers(Case):
         self.assertEqual([join_paper(TWOTHREE), is_join_paper(GLUE, ("good", LEFT, RIGHT))], [("bad", (), ()), True])
 
     def test_good_books(self):
-        for book in (GLUE, mirrored_book(GLUE), RED_JOINS, mirrored_book(RED_JOINS)):
+        for book in (GLUE, mirrored_book(GLUE), FOURS, RED_JOINS, mirrored_book(RED_JOINS)):
             told = join_paper(book)
             self.assertEqual(told, ("good", Table(book, "left").rows, Table(book, "right").rows))
             self.assertIs(self.judged(is_join_paper, book, told), True)

@@ -8,7 +8,7 @@ from mendbooks.mend.joins import join_shapes, join_steps, raise_shape, split_sha
 from mendbooks.ranks.counts import each_right
 from mendbooks.trees.shapes import Shape
 from tests import chance, naive, naive_joins
-from tests.books import GLUE, RED_JOINS, REDS, TWOTHREE
+from tests.books import FOURS, GLUE, RED_JOINS, REDS, TWOTHREE
 from tests.cases import Case
 from tests.samples import HEIGHTS, TOO_LONG, odd_values
 from tests.schemes import rings
@@ -71,12 +71,12 @@ class Beside(Case):
         return told, sum(self.check_splits(book, shape) for shape in shapes)
 
     def test_good_books(self):
-        for book in (GLUE, mirrored_book(GLUE)):
+        for book in (GLUE, mirrored_book(GLUE), FOURS):
             told, done = self.check_book(book, 9)
             self.assertNotIn(None, told)
             self.assertEqual({difference for difference, _, _ in told}, {0})
             # The place is a whole tree, or lies at any depth.
-            self.assertEqual({depth for _, _, depth in told}, {0, 1, 2, 3})
+            self.assertTrue({0, 1, 2} <= {depth for _, _, depth in told})
             self.assertGreater(done, 60)
 
     def test_books_with_drawings_left_out(self):
