@@ -291,15 +291,22 @@ class Judged(Case):
         self.assertIs(self.good(less, "put", (whole,)), True)
         self.assertIs(self.good(less, "put", (whole, row)), False)
 
-    def test_the_kinds_of_rows(self):
-        # A row of joins to the left is one of last children, and of first children to the right.
-        left, right = Table(GLUE, "left").rows, Table(GLUE, "right").rows
+    def test_rows_of_other_kinds(self):
+        # Rows may stand in a paper that its kind never comes to, also those of first and of inner children.
+        left, right, cuts = [Table(GLUE, kind).rows for kind in ("left", "right", "cut")]
         both = tuple(sorted({*left, *right}))
-        self.assertIs(self.good(GLUE, "put", PUTS), True)
+        self.assertEqual((self.good(GLUE, "left", right), self.good(GLUE, "right", left)), (False, False))
         for kind in ("left", "right"):
-            self.assertIs(self.good(GLUE, kind, both), False)
-            self.assertIs(self.good(GLUE, kind, PUTS), False)
-        self.assertIs(self.good(GLUE, "left", right), False)
+            for rows in (both, PUTS, tuple(sorted({*PUTS, *cuts}))):
+                self.assertIs(self.good(GLUE, kind, rows), True)
+            self.assertIs(self.good(GLUE, kind, cuts), False)
+            inner = ("three", 1, 1, "two(. .)", 5)
+            self.assertIs(self.good(GLUE, kind, tuple(sorted({*(left if kind == "left" else right), inner}))), True)
+        for row in left:
+            less = tuple(other for other in PUTS if other != row)
+            self.assertIs(self.good(GLUE, "left", less), False)
+            self.assertIs(self.good(GLUE, "right", less), row not in right)
+        self.assertIs(self.good(GLUE, "put", both), False)
 
     def test_books_that_are_not_good(self):
         for book, kind in ((LESS, "put"), (TWOTHREE, "left"), (REDS, "cut"), (TOPLESS, "put"), (FAR, "put")):

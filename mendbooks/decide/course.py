@@ -47,12 +47,8 @@ class Course:
         return [start for apart in range(MAX_JOINED + 1) for start in self._joins_apart(rank, apart)]
 
     def is_row(self, value):
-        """Whether the value is a row that this kind can have, useful or not."""
-        if not is_row(self._book.scheme, self._existence, value):
-            return False
-        if self._index is None or value[0] == "":
-            return True
-        return value[1] == (0 if self._index == 0 else len(self._book.scheme[value[0]]) - 1)
+        """Whether the value is a row, useful or not, of whatever children it tells."""
+        return is_row(self._book.scheme, self._existence, value)
 
     def site(self, row):
         """The site of a row or a start."""
